@@ -1,0 +1,186 @@
+"""What the other modules share: FORMS that are tuples throughout, and the PLACES in them.
+
+Nothing here calls itself: what the package returns may be passed in again, so a FORM may grow
+deeper than Python lets a function call itself.
+"""
+
+from notinvain.errors import NoPlace
+
+OPEN = ()
+
+
+def is_number(thing):
+    """Whether thing is a number: an integer that is neither True nor False."""
+    return isinstance(thing, int) and not isinstance(thing, bool)
+
+
+def is_numbers(thing):
+    """Whether thing is a tuple of numbers."""
+    return isinstance(thing, tuple) and all(is_number(part) for part in thing)
+
+
+def is_pair(thing):
+    """Whether thing is a pair."""
+    return isinstance(thing, tuple) and len(thing) == 2
+
+
+def is_name(thing):
+    """Whether thing is a NAME."""
+    if not isinstance(thing, str) or not 1 <= len(thing) <= 8:
+        return False
+    return all("a" <= letter <= "z" for letter in thing)
+
+
+def tupled(given):
+    """given, with tuples in the place of its lists, at any depth."""
+    waiting, rows = [given], []
+    while waiting:
+        part = waiting.pop()
+        rows.append(part)
+        if isinstance(part, (list, tuple)):
+            waiting.extend(part)
+    done = []
+    for part in rows[::-1]:
+        if not isinstance(part, (list, tuple)):
+            done.append(part)
+            continue
+        start = len(done) - len(part)
+        own = tuple(done[start:])
+        del done[start:]
+        done.append(own)
+    return done[0]
+
+
+def ascending(rows):
+    """The tuple of all that is in rows, ascending, each once."""
+    # FORMS are too deep to be members of a Python set, so equal ones are found side by side.
+    out = []
+    for row in sorted(rows):
+        if not out or out[-1] != row:
+            out.append(row)
+    return tuple(out)
+
+
+def spots(form):
+    """The pairs of a PLACE and what stands there, ascending by PLACE."""
+    waiting, rows = [((), form)], []
+    while waiting:
+        place, part = waiting.pop()
+        rows.append((place, part))
+        for number in reversed(range(len(part) - 1)):
+            waiting.append((place + (number,), part[number + 1]))
+    return rows
+
+
+def spots_from_below(form):
+    """The same pairs, those of the parts of each FORM ahead of it, of the first part first."""
+    waiting, rows = [((), form)], []
+    while waiting:
+        place, part = waiting.pop()
+        rows.append((place, part))
+        for number in range(len(part) - 1):
+            waiting.append((place + (number,), part[number + 1]))
+    return rows[::-1]
+
+
+def over_last(part, done):
+    """part with the last of the list done as its own parts, which are taken off there."""
+    if part == OPEN:
+        return OPEN
+    start = len(done) - (len(part) - 1)
+    node = (part[0],) + tuple(done[start:])
+    del done[start:]
+    return node
+
+
+def part_at(form, place):
+    """What stands at place; None if that is no PLACE of form, whatever else it is."""
+    if not is_numbers(place):
+        return None
+    part = form
+    for number in place:
+        if not 0 <= number < len(part) - 1:
+            return None
+        part = part[number + 1]
+    return part
+
+
+def standing_at(form, place):
+    """What stands at place, which ought to be a PLACE of form."""
+    part = part_at(form, place)
+    if part is None:
+        raise NoPlace(place)
+    return part
+
+
+def put_all(form, table):
+    """form with what table, a dict, has for PLACES put there; what is put above another one counts."""
+    done = []
+    for place, part in spots_from_below(form):
+        node = over_last(part, done)
+        done.append(table[place] if place in table else node)
+    return done[0]
+
+
+def own_sign(form):
+    """The SIGN of form; None if it is OPEN."""
+    return None if form == OPEN else (form[0], len(form) - 1)
+
+
+def open_in(form):
+    """The tuple of the OPEN PLACES of form, ascending."""
+    return tuple([place for place, part in spots(form) if part == OPEN])
+
+
+def lies(form, other):
+    """Whether form lies in other."""
+    waiting = [(form, other)]
+    while waiting:
+        part, whole = waiting.pop()
+        if part == OPEN:
+            continue
+        if own_sign(part) != own_sign(whole):
+            return False
+        waiting.extend(list(zip(part[1:], whole[1:])))
+    return True
+
+
+def agree(form, other):
+    """Whether form and other agree."""
+    waiting = [(form, other)]
+    while waiting:
+        one, two = waiting.pop()
+        if one == OPEN or two == OPEN:
+            continue
+        if own_sign(one) != own_sign(two):
+            return False
+        waiting.extend(list(zip(one[1:], two[1:])))
+    return True
+
+
+def join_of(form, other):
+    """The join of two FORMS that agree."""
+    table = {}
+    for place in open_in(form):
+        part = part_at(other, place)
+        if part is not None:
+            table[place] = part
+    return put_all(form, table)
+
+
+def first_fitting(sides, form):
+    """The number of the first SIDE that fits form; None if none does."""
+    for number, side in enumerate(sides):
+        if lies(side, form):
+            return number
+    return None
+
+
+def first_agreeing(sides, form):
+    """The number of the first SIDE that agrees with form; None if none does, or form is OPEN."""
+    if form == OPEN:
+        return None
+    for number, side in enumerate(sides):
+        if agree(side, form):
+            return number
+    return None
