@@ -1,0 +1,266 @@
+"""[2] and [24]: names, arguments by position, by name and as lists, and that nothing is changed."""
+
+import copy
+import importlib
+import inspect
+import itertools
+import unittest
+
+from tests.small import as_lists, mixed
+
+SIDES = (("f", (), ("b",)), ("f", ("g", ()), ("a",)), ("g", ("a",)))
+BOOK = (("f", (), ("a",)), ("h", ("b",)))
+FORM = ("f", ("g", ("h", ("b",)), ()), ("a",))
+PART = FORM[1]
+LEFT, RIGHT = ("f", ("g", ()), ()), ("f", (), ("b",))
+RUN = (((0, 1), ("h", ())), ((0, 1, 0), ("b",)), ((0, 0), ()), ((0, 1), ("a",)), ((), ("g", (), ())), ((1,), ("end",)))
+CHAIN = (("f", ("c",)), ("h", ()))
+HC = ("f", ("h", ("c",)))
+BOTH, HALF = (("f", ("a",), ("b",)),), ("g", ("f", ("a",), ()), ())
+NEED, TWO = (("f", (), ("b",)),), ("f", (), ())
+THREE = (("f", (), ("a",), ("b",)), ("f", ("a",), ("b",), ()), ("f", ("b",), (), ("a",)))
+
+# For each module its functions, each with its arguments' names and one or more rows of arguments.
+CALLS = {
+    "forms": (
+        ("is_form", "thing", (LEFT,), ((1,),)),
+        ("is_term", "form", (LEFT,), (("a",),)),
+        ("sign_of", "form", (LEFT,), ((),)),
+        ("signs_in", "form", (LEFT,)),
+        ("has_name", "form name", (LEFT, "g"), (LEFT, "h")),
+        ("size_of", "form", (LEFT,)),
+        ("places_of", "form", (LEFT,)),
+        ("open_places", "form", (LEFT,)),
+        ("stands_at", "form place", (LEFT, (0,)), (LEFT, (2, 1))),
+        ("put_at", "form place other", (LEFT, (0, 0), RIGHT), (LEFT, (2,), RIGHT)),
+        ("with_parts", "form parts", (LEFT, (RIGHT, ("a",))), (LEFT, ())),
+        ("filling", "form other", (LEFT, ("f", ("g", ("a",)), RIGHT)), (LEFT, ())),
+        ("lies_in", "form other", (LEFT, RIGHT), (("f", (), ()), RIGHT)),
+        ("do_agree", "form other", (LEFT, RIGHT), (("a",), RIGHT)),
+        ("odds_of", "form other", (LEFT, ("f", ("b",), ())), (LEFT, RIGHT)),
+        ("joined", "form other", (LEFT, RIGHT), (("a",), RIGHT)),
+        ("joined_all", "parts", ((LEFT, RIGHT, ()),), ((LEFT, ("a",)),)),
+        ("met_form", "form other", (LEFT, RIGHT)),
+        ("spelling_of", "form", (LEFT,)),
+        ("form_spelled", "row", ((("f", 2), (), ("b", 0)),), ((("f", 2),),)),
+    ),
+    "books": (
+        ("is_side", "thing", (LEFT,), (("end",),)),
+        ("is_sides", "thing", (SIDES,), ((("b",), ("a",)),)),
+        ("is_book", "thing", (SIDES[:2],), (SIDES,)),
+        ("is_plain", "sides", (SIDES,), (CHAIN,)),
+        ("parts_of", "sides", (SIDES,)),
+        ("pattern_of", "side", (SIDES[1],)),
+        ("signs_of", "sides", (SIDES,)),
+        ("first_signs", "sides", (SIDES,)),
+        ("sides_with", "sides sign", (SIDES, ("f", 2))),
+        ("fitting", "sides form", (SIDES, ("f", ("g", ("a",)), ("a",))), (SIDES, ())),
+        ("agreeing", "sides form", (SIDES, ("f", (), ()))),
+        ("under", "side place", (SIDES[1], (0, 0, 4)), (SIDES[1], (2,))),
+        ("overlaps", "sides", (SIDES,)),
+        ("is_overlap", "sides thing", (SIDES, (2, 1, (0,))), (SIDES, (2, 1, ()))),
+        ("overlap_form", "sides overlap", (SIDES, (2, 1, (0,))), (SIDES, (2, 3, (0,))), (SIDES, (2, 1, (1,)))),
+        ("books_within", "sides", (SIDES,)),
+        ("most_book", "sides", (SIDES,)),
+        ("spoilers", "sides", ((("f", ("f", ())), ("g", ())),)),
+        ("fits_in", "sides form", (SIDES, ("f", ("g", ("a",)), ("a",)))),
+        ("clash", "sides form", (SIDES, ("f", ("g", ("a",)), ("a",)))),
+        ("split_by", "sides form place", (SIDES, TWO, (0,)), (SIDES, TWO, (4,)), (SIDES, TWO, ())),
+    ),
+    "runs": (
+        ("due_places", "sides form", (BOOK, FORM)),
+        ("side_at", "sides form place", (BOOK, FORM, (0, 0)), (BOOK, FORM, (9,))),
+        ("is_standing", "sides form", (BOOK, FORM), (BOOK, TWO)),
+        ("is_ended", "sides form", (BOOK, FORM), (BOOK, ("a",))),
+        ("outermost_due", "sides form", (BOOK, FORM)),
+        ("skeleton", "sides form", (BOOK, PART)),
+        ("tasks", "sides form", (BOOK, PART)),
+        ("can_call", "sides form place", (BOOK, FORM, (0, 1)), (BOOK, FORM, (5,))),
+        ("called", "sides form place answer", (BOOK, FORM, (0, 1), LEFT), (BOOK, FORM, (0,), LEFT)),
+        ("is_run", "sides form thing", (BOOK, FORM, RUN), (BOOK, FORM, RUN[1:])),
+        ("led", "sides form run", (BOOK, FORM, RUN), (BOOK, FORM, RUN[1:])),
+        ("forms_along", "sides form run", (BOOK, FORM, RUN)),
+        ("answered", "sides form answers", (BOOK, PART, (("b",), ("h", ("b",)))), (BOOK, PART, ())),
+        ("exchanged", "sides form run number", (BOOK, PART, (((0,), ("b",)), ((1,), ())), 0), (BOOK, PART, (), 3)),
+        ("washed", "book form run", (BOOK, FORM, RUN)),
+        ("unwashed", "book form run", (BOOK, FORM, RUN)),
+    ),
+    "blots": (
+        ("struck_by", "sides form", (CHAIN, ("h", ()))),
+        ("blot", "sides form", (CHAIN, ("g", HC, ("a",)))),
+        ("is_struck_whole", "sides form", (CHAIN, HC), (CHAIN, ("a",))),
+        ("blot_rows", "sides form", (CHAIN, HC)),
+        ("can_strike", "sides form place", (CHAIN, HC, (0,)), (CHAIN, HC, (1,))),
+        ("strike", "sides form place", (CHAIN, HC, (0,)), (CHAIN, HC, ())),
+        ("is_strikes", "sides form thing", (CHAIN, HC, (((0,), 1),)), (CHAIN, HC, (((0,), 0),))),
+        ("struck", "sides form strikes", (CHAIN, HC, (((0,), 1),)), (CHAIN, HC, (((0,), 0),))),
+        ("is_whole", "sides form thing", (CHAIN, HC, (((0,), 1), ((), 0))), (CHAIN, HC, (((0,), 1),))),
+        ("strikes_by", "sides form order", (CHAIN, HC, ((), (0,))), (CHAIN, HC, ((), (4,)))),
+        ("undecided", "sides form", (CHAIN, HC)),
+        ("holds_up", "sides form places", (CHAIN, HC, ((0, 0),)), (CHAIN, HC, ((4, 0),))),
+        ("greatest_held", "sides form", (CHAIN, HC)),
+        ("reaches", "sides form", ((("f", ("g",)), ("g",)), ("g",)), (CHAIN, ("a",))),
+    ),
+    "ends": (
+        ("can_become", "sides form wish", (BOTH, HALF, ("g", ("c",), ()))),
+        ("made_into", "sides form wish", (BOTH, HALF, ("g", ("c",), LEFT)), (BOTH, HALF, ())),
+        ("made_end", "sides form name", (BOTH, HALF, "stop")),
+        ("is_end_of", "sides form other", (BOTH, HALF, ("g", ("c",), ("c",)))),
+        ("can_meet", "sides form other", (BOTH, HALF, ("g", ("c",), ()))),
+        ("common_end", "sides parts", (BOTH, (HALF, ("g", ("c",), ()))), (BOTH, (HALF, ("a",)))),
+        ("parting_place", "sides form other", (BOTH, HALF, ("a",))),
+    ),
+    "needs": (
+        ("marked", "form lot", (TWO, ((0,),)), (TWO, ((0,), (3,)))),
+        ("is_needed", "book form place", (NEED, TWO, (1,)), (NEED, TWO, ())),
+        ("needed_tasks", "book form", (NEED, TWO)),
+        ("spare_tasks", "book form", (NEED, TWO)),
+        ("first_needed", "book form", (NEED, TWO)),
+        ("run_without", "book form place", (NEED, TWO, (0,)), (NEED, TWO, (1,)), (NEED, TWO, (2,))),
+        ("spares", "form run place", (TWO, (((1,), ("b",)), ((), ("end",))), (0,)), (TWO, (), (2,))),
+        ("call_of", "form run place", (TWO, (((1,), ("b",)), ((), ("end",))), (1,)), (TWO, (), (2,))),
+        ("why_needed", "book form place", (CHAIN, ("f", ("h", ())), (0,)), (CHAIN, HC, ())),
+        ("is_why_needed", "book form place thing", (CHAIN, ("f", ("h", ())), (0,), ())),
+        ("need_run", "book form answers", (NEED, TWO, (("b",), ("end",), ("a",))), (THREE, ("f", (), (), ()), ((),))),
+    ),
+}
+
+# By an argument's name, what is passed for it beside the rows above: FORMS with OPEN in them, and the like.
+SOME_SIDES = (CHAIN, THREE[:1], (("f", (), ()), ("f", ("g", ()), ("a",)), ("g", ("a",))))
+SOME_FORMS = ((), ("h", ()), ("f", ("h", ())), ("g", ("f", (), ()), ()), ("f", ("g", ()), ("h", ("a",))))
+SOME_PLACES = ((), (0,), (0, 0), (2,))
+VALUES = {
+    "sides": SOME_SIDES, "book": SOME_SIDES[:2], "form": SOME_FORMS, "other": SOME_FORMS, "wish": SOME_FORMS,
+    "answer": SOME_FORMS[:2], "side": SOME_FORMS[1:], "place": SOME_PLACES, "number": (0, 1), "name": ("end", "g"),
+    "sign": (("f", 1), ("g", 1)), "overlap": ((0, 1, ()), (2, 1, (0,)), (1, 1, ())),
+    "parts": (((), ("h", ())), (SOME_FORMS[3],)), "answers": ((), (("h", ()),), (("a",), ())),
+    "row": ((("f", 2), (), ("g", 1), ()), ()), "run": ((), (((0,), ("h", ())), ((0,), ())), (((0, 0), ("a",)),)),
+    "lot": (((0,),), ((), (0, 0))), "places": (((0,),), ((), (0, 0)), ((1,), (1, 0))), "order": (((0,), ()), ((), (0,))),
+    "strikes": ((), (((0,), 1),), (((0,), 1), ((), 0))),
+    "thing": ((), ("h", ()), (((0,), 1),), (((0,), ("a",)), ((0,), ())), SOME_SIDES[2], (0, 1, ())),
+}
+
+
+def rows_of_calls():
+    """For each row of arguments: the function, its arguments' names, the arguments."""
+    out = []
+    for module, functions in CALLS.items():
+        home = importlib.import_module("notinvain." + module)
+        for name, words, *rows in functions:
+            out.extend((getattr(home, name), words.split(), row) for row in rows)
+    return out
+
+
+def came(deed, *row, **named):
+    """What comes of a call: what it returns, or its error with all that this keeps."""
+    try:
+        return ("returned", deed(*row, **named))
+    except (LookupError, ValueError) as error:
+        return (type(error).__module__, type(error).__name__, vars(error))
+
+
+def has_list(value):
+    """Whether a list is in value."""
+    return isinstance(value, list) or isinstance(value, tuple) and any(has_list(part) for part in value)
+
+
+class Interface(unittest.TestCase):
+
+    def test_defined_in_its_file_with_its_arguments(self):
+        for module, functions in CALLS.items():
+            home = importlib.import_module("notinvain." + module)
+            for name, words, *_ in functions:
+                own = getattr(home, name)
+                self.assertTrue(inspect.isfunction(own), name)
+                self.assertEqual((own.__module__, own.__name__), ("notinvain." + module, name))
+                self.assertEqual(list(inspect.signature(own).parameters), words.split(), name)
+
+    def test_how_many(self):
+        self.assertEqual([len(CALLS[module]) for module in CALLS], [20, 21, 16, 14, 7, 11])
+
+    def test_no_error_that_is_not_of_the_package(self):
+        for deed, _, row in rows_of_calls():
+            self.assertIn(came(deed, *row)[0], ("returned", "notinvain.errors"), (deed, row))
+
+    def test_returned_tuples_throughout(self):
+        for deed, _, row in rows_of_calls():
+            self.assertFalse(has_list(came(deed, *row)[-1]), deed)
+
+    def test_by_names(self):
+        for deed, names, row in rows_of_calls():
+            self.assertEqual(came(deed, **dict(zip(names, row))), came(deed, *row), deed)
+            turned = dict(reversed(list(zip(names, row))))
+            self.assertEqual(came(deed, **turned), came(deed, *row), deed)
+
+    def test_lists_for_tuples(self):
+        for deed, names, row in rows_of_calls():
+            for change in (as_lists, mixed, lambda part: mixed(part, 1)):
+                own = [part if name == "thing" else change(part) for name, part in zip(names, row)]
+                told = came(deed, *own)
+                self.assertEqual(told, came(deed, *row), deed)
+                self.assertFalse(has_list(told[-1]), deed)
+                self.assertFalse(told[0] != "returned" and any(has_list(part) for part in told[2].values()), deed)
+
+    def test_lists_for_tuples_in_many_calls(self):
+        for module, functions in CALLS.items():
+            home = importlib.import_module("notinvain." + module)
+            for name, words, *_ in functions:
+                deed, names = getattr(home, name), words.split()
+                for row in itertools.product(*[VALUES[name] for name in names]):
+                    own = [part if name == "thing" else as_lists(part) for name, part in zip(names, row)]
+                    told = came(deed, *row)
+                    self.assertIn(told[0], ("returned", "notinvain.errors"), (name, row))
+                    self.assertEqual(came(deed, *own), told, (name, row))
+
+    def test_arguments_stay_as_they_were(self):
+        for deed, names, row in rows_of_calls():
+            own = [part if name == "thing" else as_lists(part) for name, part in zip(names, row)]
+            kept = copy.deepcopy(own)
+            came(deed, *own)
+            self.assertEqual(own, kept, deed)
+
+    def test_again(self):
+        rows = rows_of_calls()
+        told = [came(deed, *row) for deed, _, row in rows]
+        for (deed, _, row), first in zip(reversed(rows), reversed(told)):
+            self.assertEqual(came(deed, *copy.deepcopy(row)), first, deed)
+
+    def test_changed_and_asked_again(self):
+        """Lists that were told before and are filled anew are read anew."""
+        by_deed = {}
+        for deed, names, row in rows_of_calls():
+            by_deed.setdefault(deed, (names, []))[1].append(row)
+        for deed, (names, rows) in by_deed.items():
+            own = [as_lists(part) if name != "thing" else part for name, part in zip(names, rows[0])]
+            for row in rows + rows[:1]:
+                for at, name in enumerate(names):
+                    if name != "thing" and isinstance(own[at], list):
+                        own[at][:] = as_lists(row[at])
+                    else:
+                        own[at] = row[at]
+                self.assertEqual(came(deed, *own), came(deed, *row), deed)
+
+    def test_deeply_changed_and_asked_again(self):
+        from notinvain.blots import blot
+        from notinvain.needs import needed_tasks
+        from notinvain.runs import due_places, tasks
+        sides, form = as_lists(NEED), ["f", ["a"], ["c"]]
+        self.assertEqual((due_places(sides, form), tasks(sides, form)), ((), ()))
+        form[2][0] = "b"
+        self.assertEqual((due_places(sides, form), tasks(sides, form)), (((),), ((),)))
+        sides[0][2][0] = "d"
+        self.assertEqual((due_places(sides, form), blot(sides, form)), ((), ("f", ("a",), ("b",))))
+        del form[2][:]
+        self.assertEqual((blot(sides, form), needed_tasks(sides, form)), ((), ((1,),)))
+        sides[0][1].append("a")
+        form[1].append([])
+        self.assertEqual(needed_tasks(sides, form), ((0, 0), (1,)))
+
+    def test_thing_may_be_a_list_only_to_be_refused(self):
+        for deed, names, row in rows_of_calls():
+            if names[-1] == "thing" and row[-1] != 1:
+                self.assertIs(deed(*row[:-1], list(row[-1])), False, deed)
+
+
+if __name__ == "__main__":
+    unittest.main()
