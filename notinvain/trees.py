@@ -184,3 +184,37 @@ def first_agreeing(sides, form):
         if agree(side, form):
             return number
     return None
+
+
+def _needs_of(whole, parts):
+    """For each part of whole, a SIDE or a PART: 0 if it is OPEN, else the bit of its number in parts."""
+    return tuple([0 if part == OPEN else 1 << parts.index(part) for part in whole[1:]])
+
+
+def framed(sides, parts):
+    """sides and their PARTS, with sets of PARTS as numbers: bit k is that of PART k.
+
+    Three: what the SIDES need of each part, a dict by SIGN; likewise for the PARTS, pairs of the own
+    bit and what is needed; the number of the set of all PARTS.
+    """
+    over_sides, over_parts = {}, {}
+    for side in sides:
+        over_sides.setdefault(own_sign(side), []).append(_needs_of(side, parts))
+    for number, part in enumerate(parts):
+        over_parts.setdefault(own_sign(part), []).append((1 << number, _needs_of(part, parts)))
+    return (over_sides, over_parts, (1 << len(parts)) - 1)
+
+
+def is_met(needs, numbers):
+    """Whether each of needs is in the set of its part."""
+    return all([own & number == own for own, number in zip(needs, numbers)])
+
+
+def side_met(frames, sign, numbers):
+    """Whether some SIDE with this SIGN has its needs in numbers, the sets of the parts."""
+    return any([is_met(needs, numbers) for needs in frames[0].get(sign, ())])
+
+
+def parts_met(frames, sign, numbers):
+    """The set of the PARTS with this SIGN that have their needs in numbers, the sets of the parts."""
+    return sum([bit for bit, needs in frames[1].get(sign, ()) if is_met(needs, numbers)])

@@ -6,7 +6,7 @@ nothing of the package.
 
 import itertools
 
-A, B, C, END = ("a",), ("b",), ("c",), ("end",)
+A, B, C, END, MARK = ("a",), ("b",), ("c",), ("end",), ("mark",)
 SIGNS = (("a", 0), ("b", 0), ("f", 2), ("g", 1))
 FEW_SIGNS = (("a", 0), ("f", 2), ("g", 1))
 
@@ -38,6 +38,11 @@ def plain_spots(form):
         for place, own in plain_spots(part).items():
             rows[(number,) + place] = own
     return rows
+
+
+def plain_signs(sides):
+    """The SIGNS of SIDES and PARTS."""
+    return {(part[0], len(part) - 1) for side in sides for part in plain_spots(side).values() if part != ()}
 
 
 def plain_put(form, place, other):
@@ -105,6 +110,28 @@ def plain_calls(sides, form):
 def plain_ended(sides, form):
     """Whether form is ended."""
     return not plain_calls(sides, form)
+
+
+def plain_marked(form, lot):
+    """form with a mark at each of these PLACES; of those one below the other the one above counts."""
+    for place in sorted(lot, reverse=True):
+        form = plain_put(form, place, MARK)
+    return form
+
+
+def plain_bars(sides, form, lot):
+    """Whether the mark is in the BLOT of form marked at lot."""
+    return MARK in plain_spots(plain_blot(sides, plain_marked(form, lot))).values()
+
+
+def plain_needed(book, form):
+    """The needed TASKS of form."""
+    return tuple(place for place in plain_tasks(book, form) if plain_bars(book, form, (place,)))
+
+
+def subsets(rows):
+    """All sets of these, those with fewer first."""
+    return [own for size in range(len(rows) + 1) for own in itertools.combinations(rows, size)]
 
 
 def reached(sides, form, answers, most, skip=None):

@@ -19,6 +19,10 @@ HC = ("f", ("h", ("c",)))
 BOTH, HALF = (("f", ("a",), ("b",)),), ("g", ("f", ("a",), ()), ())
 NEED, TWO = (("f", (), ("b",)),), ("f", (), ())
 THREE = (("f", (), ("a",), ("b",)), ("f", ("a",), ("b",), ()), ("f", ("b",), (), ("a",)))
+WIDE, DEEP = ("f", (), (), ()), (("f", ("g", ()), ("a",)),)
+ELEVEN = ("f", WIDE, WIDE, ("f", (), WIDE, ("g", ())))
+ROW = (2, (), (0, 1), ((),))
+TOO_MANY = (("f", (), ("a",), ("f", ("b",), ("b",), ())), ("f", ("a",), ("b",), ("c",)))
 
 # For each module its functions, each with its arguments' names and one or more rows of arguments.
 CALLS = {
@@ -123,6 +127,45 @@ CALLS = {
         ("is_why_needed", "book form place thing", (CHAIN, ("f", ("h", ())), (0,), ())),
         ("need_run", "book form answers", (NEED, TWO, (("b",), ("end",), ("a",))), (THREE, ("f", (), (), ()), ((),))),
     ),
+    "lots": (
+        ("bars", "book form lot", (THREE, WIDE, ((0,), (2,))), (THREE, WIDE, ((0,), (5,))), (THREE, WIDE, ((),))),
+        ("is_enough", "book form lot", (THREE, WIDE, ((0,), (2,))), (THREE, WIDE, ((0,), (5,)))),
+        ("least_barring", "book form", (THREE, WIDE), (THREE, ELEVEN)),
+        ("least_enough", "book form", (THREE, WIDE), (THREE, ELEVEN)),
+        ("width", "book form", (THREE, WIDE), (THREE, ("a",)), (THREE, ELEVEN)),
+        ("cheapest_barring", "book form prices", (THREE, WIDE, (5, 1, 2)), (THREE, WIDE, (5, 1))),
+        ("cheapest_enough", "book form prices", (THREE, WIDE, (5, 1, 2)), (THREE, WIDE, (5, 1))),
+        ("run_within", "book form lot", (THREE, WIDE, ((0,), (2,))), (THREE, WIDE, ((0,),)), (THREE, WIDE, ((5,),))),
+        ("share", "book form", (THREE, WIDE), (THREE, ("a",)), (THREE, ELEVEN)),
+        ("weighing", "book form", (THREE, WIDE), (THREE, ("a",)), (THREE, ELEVEN)),
+        ("spread", "book form", (THREE, WIDE), (THREE, ("a",)), (THREE, ELEVEN)),
+        ("is_weighing", "book form thing", (THREE, WIDE, (1, 1, 1)), (THREE, WIDE, (1, 1, 2))),
+        ("is_spread", "book form thing",
+         (THREE, WIDE, ((((0,), (1,)), 1), (((0,), (2,)), 1), (((1,), (2,)), 1))), (THREE, WIDE, ((((0,), (1,)), 1),))),
+        ("blockers", "lots", ((((0,), (1,)), ((0,), (2, 1))),), (tuple(((number,),) for number in range(11)),)),
+    ),
+    "rows": (
+        ("row_of", "book form", (THREE, WIDE), (THREE, ("f", ("a",), ("b",), ()))),
+        ("row_over", "book name rows", (DEEP, "f", ((1, (1,), (1,), ((1,),)), (0, (0,), (0,), ()))), (DEEP, "g", (ROW,))),
+        ("closed_table", "book", (THREE,), (TOO_MANY,)),
+        ("is_closed", "book thing", ((), (((0, (), (), ()), ("end",)), ((2, (), (), ((),)), ()))), (THREE, ())),
+        ("are_alike", "book form other", (THREE, ("a",), ("b",)), (THREE, ("f", ("a",), ("b",), ()), ())),
+        ("parting", "book form other", (THREE, ("a",), ("b",)), (TOO_MANY, ("a",), ("b",))),
+        ("does_part", "book form other thing", (THREE, ("a",), ("b",), (("f", (), ("b",), ()), (0,)))),
+        ("alike_sets", "book", (THREE,), (TOO_MANY,)),
+    ),
+    "always": (
+        ("always_needs", "book", (THREE,), (DEEP,), (TOO_MANY,)),
+        ("lacks", "book form", (THREE, WIDE), (THREE, ())),
+        ("is_struck", "book form", (THREE, WIDE), (THREE, ("a",))),
+        ("least_form", "book", (THREE,), (DEEP,), (TOO_MANY,)),
+        ("verdict", "book", (THREE,), (DEEP,), (TOO_MANY,)),
+        ("is_verdict", "book thing", (THREE, ("lacks", WIDE)), (THREE, ("always", ()))),
+        ("lacking_signs", "book", (THREE,), (DEEP,), (TOO_MANY,)),
+        ("how_many", "book size", (THREE, 4), (THREE, 11)),
+        ("nest", "form depth", (("f", (), ("a",)), 2), (("f", (), ("a",)), 300)),
+        ("nest_lot", "book form depth", (THREE, WIDE, 2), (THREE, WIDE, 5), (THREE, ("a",), 0)),
+    ),
 }
 
 # By an argument's name, what is passed for it beside the rows above: FORMS with OPEN in them, and the like.
@@ -135,6 +178,8 @@ VALUES = {
     "sign": (("f", 1), ("g", 1)), "overlap": ((0, 1, ()), (2, 1, (0,)), (1, 1, ())),
     "parts": (((), ("h", ())), (SOME_FORMS[3],)), "answers": ((), (("h", ()),), (("a",), ())),
     "row": ((("f", 2), (), ("g", 1), ()), ()), "run": ((), (((0,), ("h", ())), ((0,), ())), (((0, 0), ("a",)),)),
+    "prices": ((), (1,), (2, 1)), "lots": ((), (((0,), (1,)), ((0,),)), ((),)), "depth": (0, 2), "size": (3, 11),
+    "rows": ((), (ROW,), (ROW, (0, (0,), (0,), ()))),
     "lot": (((0,),), ((), (0, 0))), "places": (((0,),), ((), (0, 0)), ((1,), (1, 0))), "order": (((0,), ()), ((), (0,))),
     "strikes": ((), (((0,), 1),), (((0,), 1), ((), 0))),
     "thing": ((), ("h", ()), (((0,), 1),), (((0,), ("a",)), ((0,), ())), SOME_SIDES[2], (0, 1, ())),
@@ -176,7 +221,7 @@ class Interface(unittest.TestCase):
                 self.assertEqual(list(inspect.signature(own).parameters), words.split(), name)
 
     def test_how_many(self):
-        self.assertEqual([len(CALLS[module]) for module in CALLS], [20, 21, 16, 14, 7, 11])
+        self.assertEqual([len(CALLS[module]) for module in CALLS], [20, 21, 16, 14, 7, 11, 14, 8, 10])
 
     def test_no_error_that_is_not_of_the_package(self):
         for deed, _, row in rows_of_calls():

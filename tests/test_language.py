@@ -5,13 +5,15 @@ import builtins
 import pathlib
 import unittest
 
+LIBRARY = {"math": ("gcd", "lcm", "isqrt", "comb"), "itertools": ("product", "combinations", "permutations"),
+           "heapq": ("heappush", "heappop")}
 FOLDER = pathlib.Path(__file__).resolve().parent.parent / "notinvain"
 FILES = sorted(FOLDER.glob("**/*.py"))
 BUILTINS = ("len range enumerate zip min max sum abs sorted reversed int str bool bytes list tuple dict set frozenset "
             "isinstance ord repr any all divmod Exception ValueError TypeError KeyError IndexError LookupError").split()
 METHODS = ("append clear copy count endswith extend find get index insert isalnum isalpha isdigit islower isspace "
            "isupper items join keys ljust lower lstrip partition pop remove replace reverse rfind rjust rpartition "
-           "rsplit rstrip setdefault split splitlines startswith strip update upper values zfill add __init__").split()
+           "rsplit rstrip setdefault split splitlines startswith strip update upper values zfill add bit_length").split()
 BARRED_NODES = (ast.Global, ast.Nonlocal, ast.AsyncFunctionDef, ast.Await, ast.Lambda, ast.Yield, ast.YieldFrom,
                 ast.With, ast.Match, ast.Starred, ast.Div, ast.Import, ast.AnnAssign, ast.NamedExpr)
 BARRED_NAMES = ("open input register law elements mro id dir help exit vars type hash next iter map filter format "
@@ -20,6 +22,12 @@ BARRED_NAMES = ("open input register law elements mro id dir help exit vars type
 
 def trees():
     return [(file, ast.parse(file.read_text())) for file in FILES]
+
+
+def methods_in(tree):
+    """The names of the methods of the classes of tree."""
+    return [part.name for node in tree.body if isinstance(node, ast.ClassDef) for part in node.body
+            if isinstance(part, ast.FunctionDef)]
 
 
 def bound_names(node):
@@ -86,6 +94,9 @@ class Language(unittest.TestCase):
             for node in own:
                 self.assertIn(node, tree.body)
                 self.assertEqual(node.level, 0)
+                if node.module in LIBRARY:
+                    self.assertTrue(all(name.asname is None and name.name in LIBRARY[node.module] for name in node.names))
+                    continue
                 home = FOLDER / (node.module.partition(".")[2] + ".py")
                 names = list(top_names(ast.parse(home.read_text())))
                 self.assertTrue(all(name.asname is None and name.name in names for name in node.names), file)
@@ -103,7 +114,7 @@ class Language(unittest.TestCase):
             self.assertFalse(barred & set(bound_names(tree)) - {"__init__"}, file)
             brought = {name.name for node in tree.body if isinstance(node, ast.ImportFrom) for name in node.names}
             brought |= {node.name for node in tree.body if isinstance(node, ast.ClassDef)}
-            for node in tree.body:
+            for node in ast.walk(tree):
                 if isinstance(node, ast.FunctionDef):
                     self.assertFalse(brought & set(bound_names(node)), (file, node.name))
             used = {node.id for node in ast.walk(tree) if isinstance(node, ast.Name)}
@@ -114,16 +125,22 @@ class Language(unittest.TestCase):
     def test_functions_do_not_hide_functions(self):
         for file, tree in trees():
             top = set(top_names(tree))
-            for node in tree.body:
+            for node in ast.walk(tree):
                 if isinstance(node, ast.FunctionDef):
                     inner = [name for name in bound_names(node) if name != node.name]
                     self.assertFalse(top & set(inner), (file, node.name))
 
     def test_methods(self):
+        own = {name for _, tree in trees() for name in methods_in(tree)}
+        self.assertFalse(own & set(METHODS))
         for file, tree in trees():
             for node in ast.walk(tree):
                 if isinstance(node, ast.Call) and isinstance(node.func, ast.Attribute):
-                    self.assertIn(node.func.attr, METHODS, (file, node.lineno))
+                    self.assertIn(node.func.attr, set(METHODS) | own, (file, node.lineno))
+                if isinstance(node, ast.ClassDef):
+                    self.assertTrue(all(isinstance(part, (ast.FunctionDef, ast.Expr)) for part in node.body), file)
+                    for part in node.body[1:]:
+                        self.assertTrue(part.name == "__init__" or ast.get_docstring(part), (file, part.name))
 
     def test_sets(self):
         """A set stands only within sorted(..) or len(..)."""

@@ -10,15 +10,14 @@ from notinvain.forms import has_name
 from notinvain.needs import call_of, first_needed, is_needed, is_why_needed, marked, need_run, needed_tasks
 from notinvain.needs import run_without, spare_tasks, spares, why_needed
 from notinvain.runs import is_ended, is_run, led, skeleton, tasks
-from tests.small import A, B, END, FEW_SIGNS, as_lists, forms_of, is_above, more_things, odd_things, plain_blot
-from tests.small import plain_calls, plain_ended, plain_lies, plain_put, plain_spots, plain_tasks, reached
-from tests.small import runs_of, sides_of
+from tests.small import A, B, END, FEW_SIGNS, MARK, as_lists, forms_of, is_above, more_things, odd_things
+from tests.small import plain_calls, plain_ended, plain_lies, plain_marked, plain_needed, plain_put, plain_spots
+from tests.small import plain_tasks, reached, runs_of, sides_of
 
 RIGHT, DEEP = (("f", (), ("b",)),), (("f", ("g", ()), ("a",)),)
 THREE = (("f", (), ("a",), ("b",)), ("f", ("a",), ("b",), ()), ("f", ("b",), (), ("a",)))
 CHAIN = (("f", ("c",)), ("h", ()))
 WIDE = ("f", (), (), ())
-MARK = ("mark",)
 BOOKS = [sides for sides in sides_of(FEW_SIGNS, 4, 1) + sides_of(FEW_SIGNS, 3, 2) if is_book(sides)]
 BOOKS += [RIGHT, DEEP, THREE, CHAIN]
 FORMS = forms_of(FEW_SIGNS, 5)
@@ -28,17 +27,6 @@ PAIRS += [(THREE, form) for form in forms_of((("a", 0), ("b", 0), ("f", 3)), 7)[
 PAIRS += [(CHAIN, form) for form in forms_of((("c", 0), ("f", 1), ("h", 1)), 5)]
 PAIRS += [(DEEP, form) for form in forms_of((("a", 0), ("f", 2), ("g", 1)), 6)[-110:]]
 NO_PLACES = ((2,), (0, 0, 0), (-1,), (False,), (1, 0))
-
-
-def plain_marked(form, places):
-    for place in sorted(places, reverse=True):
-        form = plain_put(form, place, MARK)
-    return form
-
-
-def plain_needed(book, form):
-    return tuple(place for place in plain_tasks(book, form)
-                 if MARK in plain_spots(plain_blot(book, plain_marked(form, (place,)))).values())
 
 
 class Examples(unittest.TestCase):
