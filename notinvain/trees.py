@@ -1,4 +1,4 @@
-"""What the other modules share: FORMS that are tuples throughout, and the PLACES in them.
+"""What the other modules share: FORMS that are tuples throughout, the PLACES in them, and CELLS.
 
 Nothing here calls itself: what the package returns may be passed in again, so a FORM may grow
 deeper than Python lets a function call itself.
@@ -218,3 +218,110 @@ def side_met(frames, sign, numbers):
 def parts_met(frames, sign, numbers):
     """The set of the PARTS with this SIGN that have their needs in numbers, the sets of the parts."""
     return sum([bit for bit, needs in frames[1].get(sign, ()) if is_met(needs, numbers)])
+
+
+def nodes_of(reply):
+    """The nodes of reply, in their order."""
+    waiting, nodes = [reply], []
+    while waiting:
+        node = waiting.pop()
+        nodes.append(node)
+        if not is_number(node):
+            waiting.extend(node[1:][::-1])
+    return nodes
+
+
+class Cells:
+    """The CELLS of a HOUSE, by the SIDES of a BOOK: own has their own cells, links where calls led, by cell name."""
+
+    def __init__(self, book, plan):
+        self.book, self.plan = book, plan
+        self.own, self.links, self.replies = {}, {}, {}
+        for number, own in enumerate(plan):
+            self.own[(number,)] = own[:1] + tuple([(part,) for part in own[1:]])
+
+    def way(self, cell):
+        """The links from cell to the CELL at its end."""
+        out = []
+        while cell in self.links:
+            out.append(cell)
+            cell = self.links[cell]
+        return out
+
+    def end(self, cell):
+        """The CELL at the end of cell."""
+        while cell in self.links:
+            cell = self.links[cell]
+        return cell
+
+    def parts(self, cell):
+        """The CELLS at the ends of the parts of the own cell of cell."""
+        return [self.end(part) for part in self.own[cell][1:]]
+
+    def _is_fitted(self, side, cell):
+        """Whether side fits what the own cell of cell holds."""
+        waiting = [(side, cell)]
+        while waiting:
+            part, at = waiting.pop()
+            own = self.own[at]
+            if own == OPEN or own[0] != part[0] or len(own) != len(part):
+                return False
+            waiting.extend([pair for pair in zip(part[1:], self.parts(at)) if pair[0] != OPEN])
+        return True
+
+    def side(self, cell):
+        """The SIDE that fits what the own cell of cell holds; None if none does."""
+        for own in self.book:
+            if self._is_fitted(own, cell):
+                return own
+        return None
+
+    def is_free(self, cell):
+        """Whether cell, which is there, was not called, and is OPEN or due."""
+        return cell not in self.links and (self.own[cell] == OPEN or self.side(cell) is not None)
+
+    def found(self, cell):
+        """The CELLS that the OPEN PLACES of the SIDE that fits cell have met."""
+        side = self.side(cell)
+        if side is None:
+            return ()
+        return tuple([self._part_at(cell, place) for place in open_in(side)])
+
+    def _part_at(self, cell, place):
+        """The CELL, maybe a link, that place leads to, read from the own cell of cell."""
+        for number in place[:-1]:
+            cell = self.end(self.own[cell][number + 1])
+        return self.own[cell][place[-1] + 1]
+
+    def make(self, cell, reply):
+        """Makes the call at cell."""
+        found, nodes, made = self.found(cell), nodes_of(reply), []
+        # From behind: the CELLS of the parts of a node are there by then, its first part last.
+        for number in reversed(range(len(nodes))):
+            node, name = nodes[number], cell + (number,)
+            if is_number(node) and node < len(found):
+                made.append(found[node])
+                continue
+            own = ("end",) if is_number(node) else node
+            start = len(made) - len(own[1:])
+            self.own[name] = own[:1] + tuple(made[start:][::-1])
+            del made[start:]
+            made.append(name)
+        self.links[cell], self.replies[cell] = made[0], reply
+
+    def below(self, cell):
+        """The CELLS, no links, at the end of cell and below, those of the parts of each ahead of it."""
+        waiting, seen, out = [(self.end(cell), False)], {}, []
+        while waiting:
+            own, parts_done = waiting.pop()
+            if parts_done:
+                out.append(own)
+            elif own not in seen:
+                seen[own] = True
+                waiting.append((own, True))
+                waiting.extend([(part, False) for part in self.parts(own)])
+        return out
+
+    def house(self):
+        """The HOUSE."""
+        return (self.plan, tuple([(cell, self.replies[cell]) for cell in sorted(self.replies)]))

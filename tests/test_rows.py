@@ -16,7 +16,8 @@ WIDE = ("f", (), (), ())
 BOOKS = [sides for sides in sides_of(FEW_SIGNS, 4, 1) + sides_of(FEW_SIGNS, 3, 2) if is_book(sides)]
 BOOKS += [DEEP, CHAIN, RIGHT, (("f", ("g", ()), ("g", A)),), (("f", A, ()), ("f", B, A), ("g", B))]
 FORMS = forms_of(FEW_SIGNS, 5)
-# With one SIGN of two parts, the sum of [11] is 578, 627 and 601.
+# With one SIGN of two parts, the sum of [11] is 600, 578, 627 and 601.
+EXACT = (("g", ("f", (), ("f", ("f", (), ("f", (), ())), ()))),)
 JUST, OVER = (
     (("f", A, ("f", B, B)), ("f", A, ("f", ("f", B, A), A)), ("f", A, ("f", ("f", ("f", A, A), A), B)),
      ("f", B, ("f", B, B)), ("f", B, ("f", B, ("f", A, ("f", A, B)))), ("f", ("f", ("f", B, A), ("f", B, B)), B)),
@@ -164,7 +165,9 @@ class Tables(unittest.TestCase):
         self.assertEqual(closed_table((A,)), closed_table(()))
 
     def test_bounds(self):
-        self.assertEqual(len(closed_table(JUST)), 24)
+        self.assertEqual((len(closed_table(JUST)), len(closed_table(EXACT))), (24, 24))
+        self.assertEqual(sum(len(own) for own in alike_sets(EXACT)), 24)
+        self.assertIs(are_alike(EXACT, A, ("z", A)), True)
         self.assertEqual(sum(len(own) for own in alike_sets(JUST)), 24)
         self.assertIs(are_alike(JUST, A, ("z", A)), False)
         eight = (("f", (), A, B), ("f", A, ("f", C, C, A), ()))
