@@ -81,7 +81,7 @@ class Lacking(unittest.TestCase):
                 self.assertIs(is_struck(book, form), not plain_due(book, form) and plain_blot(book, form) == ())
 
     def test_least_form_beside_a_search(self):
-        for book in BOOKS + MORE[::6] + LACKING + WIDE_BOOKS[::60] + FREE + [RIGHT, DEEP, CHAIN]:
+        for book in BOOKS[::2] + MORE[::8] + LACKING[:4] + WIDE_BOOKS[::90] + FREE[::2] + [RIGHT, DEEP, CHAIN]:
             most = {1: 8, 2: 6, 3: 7}.get(max([many for _, many in own_signs(book)]), 4)
             found = [form for form in forms_of(own_signs(book), most) if plain_lacks(book, form)]
             least = least_form(book)
@@ -173,6 +173,11 @@ class Verdicts(unittest.TestCase):
             for form in forms_of((("a", 0), ("b", 0), ("f", 3)), 7)[::5] + [WIDE, ("z", WIDE), ("z", WIDE, ())]:
                 self.assertIs(is_verdict(book, ("lacks", form)), plain_lacks(book, form))
 
+    def test_no_mark(self):
+        book = THREE + (("k", (), A),)
+        self.assertIs(is_verdict(book, ("lacks", ("f", ("k", END, ()), (), ()))), True)
+        self.assertIs(is_verdict(book, ("lacks", ("f", ("k", MARK, ()), (), ()))), False)
+
     def test_spoiled(self):
         told = verdict(DEEP)
         for thing in (list(told), ("lacks", told[1]), ("Always", told[1]), ("", told[1]), (None, told[1]), told[:1],
@@ -192,7 +197,7 @@ class Verdicts(unittest.TestCase):
 class HowMany(unittest.TestCase):
 
     def test_beside_a_search(self):
-        for book in BOOKS + MORE[::5] + LACKING:
+        for book in BOOKS[1::2] + MORE[::8] + LACKING:
             most = {1: 8, 2: 6, 3: 7}.get(max([many for _, many in own_signs(book)]), 4)
             by_size = {size: [0, 0, 0] for size in range(most + 1)}
             for form in forms_of(own_signs(book), most):
@@ -242,8 +247,10 @@ class Nests(unittest.TestCase):
 
     def test_nest_lot(self):
         for book in LACKING[:3] + [RIGHT, BOTH, DEEP, CHAIN] + BOOKS[::3] + FREE[::3]:
-            forms = forms_of(own_signs(book), 4) + [WIDE, ("f", (), WIDE, ()), ("f", ("h", ())), ("g", WIDE)]
-            for form in [form for form in forms if is_struck(book, form)][:25]:
+            forms = forms_of(own_signs(book), 4)
+            forms = [form for form in forms if is_struck(book, form)][:25]
+            more = [WIDE, ("f", (), WIDE, ()), ("f", WIDE, (), ()), ("f", ("h", ())), ("g", WIDE)]
+            for form in forms + [form for form in more if is_struck(book, form)]:
                 lots = least_barring(book, form)
                 least = min(lots, key=lambda lot: (len(lot), lot))
                 for depth in range(4):
@@ -261,6 +268,11 @@ class Nests(unittest.TestCase):
                             self.assertEqual(width(book, whole), len(own))
                     elif len(plain_tasks(book, whole)) <= 8:
                         self.assertGreaterEqual(width(book, whole), len(own))
+
+    def test_the_fewest_tasks_count_ahead_of_the_least(self):
+        form = ("f", WIDE, (), ())
+        self.assertEqual(least_barring(THREE, form)[0], ((0, 0), (0, 1), (1,)))
+        self.assertEqual(nest_lot(THREE, form, 1), ((1,), (2,)))
 
     def test_errors(self):
         for form in (A, ("f", A, B, ()), ("f", A, A, A), ("f", END, END, ()), ("z", WIDE)):

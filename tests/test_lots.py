@@ -284,8 +284,12 @@ class Spoiled(unittest.TestCase):
                   (one, two, (((True,), (2,)), 1)), (one, two, (((1,), (2,)),)), (one, two, (((1,), (2,)), 1, 1)),
                   ((((0,),), 1), one, two, six), (((), 1), one, two, six), (), None, 1, (1,), ((1, 1),),
                   ((((0,), (1,), (2,)), 1),), ((((False,), (1,)), 1), two, six), (one, two, (six[0], "1"))]
+        three = (((0,), (1,), (2,)), 0)
+        things += [(one, three, two, six), (one, (three[0], True), two, six), (one, (three[0], -1), two, six)]
         for thing in things:
             self.assertIs(is_spread(THREE, WIDE, thing), False, thing)
+        self.assertIs(is_spread(THREE, ("f", (), (), B), ((((0,), (1,)), -1), (((1,),), 3))), False)
+        self.assertIs(is_spread(THREE, ("f", (), (), B), ((((0,), (1,)), 0), (((1,),), 3))), False)
         for thing in odd_things() + more_things():
             self.assertIs(is_spread(THREE, WIDE, thing), False, thing)
             self.assertIs(is_spread(THREE, WIDE, (thing,)), False, thing)

@@ -120,6 +120,13 @@ class Rows(unittest.TestCase):
         self.assertIsNone(row_over((A,), "a", ()))
         self.assertEqual(row_over((A,), "b", ()), (0, (), (), ()))
 
+    def test_lots_ascend(self):
+        book = (("f", ("k", (), (), A)), ("g", ("k", (), A, ())), ("h", ("k", A, (), B)))
+        row = (1, (), (2, 3, 4), ((2, 4), (3,)))
+        self.assertEqual(row_of(book, ("k", (), (), ())), row)
+        self.assertEqual(plain_row(book, ("k", (), (), ())), row)
+        self.assertEqual(row_over(book, "k", (row_of(book, ()),) * 3), row)
+
     def test_what_is_needed_in_a_part_may_be_needed_no_more(self):
         self.assertEqual(row_of(DEEP, ("f", ("g", ()), ())), (2, (), (0, 1), ((),)))
         self.assertEqual(plain_needed(DEEP, ("f", ("g", ()), ())), ((1,),))
@@ -226,6 +233,11 @@ class Closed(unittest.TestCase):
                 own = tuple(new if part == old else part for part in row)
                 if own != row or old in (0, 1, (1,)) and any(part == old for part in row):
                     things.append(table[:number] + ((own, form),) + table[number + 1:])
+        # Each place in a ROW for itself: True equals 1.
+        at = [row for row, _ in table].index((0, (1,), (1,), ()))
+        for row in ((0, (True,), (1,), ()), (0, (1,), (True,), ()), (False, (1,), (1,), ()), (0, [1], (1,), ())):
+            things.append(table[:at] + ((row, table[at][1]),) + table[at + 1:])
+        things.append(table[:at] + ((table[at][0], ("f", ("g", ()), A)),) + table[at + 1:])
         for thing in things:
             self.assertIs(is_closed(DEEP, thing), False, thing)
         for thing in odd_things() + more_things():
@@ -280,6 +292,22 @@ class Alike(unittest.TestCase):
     def test_three(self):
         forms = [form for _, form in closed_table(THREE)] + [("z", WIDE), C, ("f", A, B, C)][:2]
         self.check(THREE, list(itertools.combinations(forms, 2)), own_signs(THREE), 5)
+
+    def test_parted_from_further_off(self):
+        g, h = ("g", ()), ("h", ())
+        rows = [((A, ("f", ("f", g, ()), h)), ("f", (), END), ("f", g, ()), 5),
+                ((A, ("f", (), ("f", (), ("f", h, g)))), ("f", (), END), h, 4),
+                ((("f", ("h", g), ("g", A)),), h, ("h", g), 5),
+                ((("f", (), ("f", ("f", A, A), ("f", (), A))),), ("f", END, A), ("f", A, A), 5),
+                ((("f", B, ()), ("f", ("f", ("k", (), B), A), ())), END, A, 4),
+                ((A, ("k", B, B), ("k", ("f", ("f", B, ()), ("f", B, ())), ())), ("f", (), B), ("f", B, ()), 5),
+                ((B, ("f", (), ("f", g, ("g", g)))), g, ("g", g), 5),
+                ((B, ("f", (), ("f", g, ("g", g)))), ("g", ("f", (), END)), ("z", ()), 4),
+                ((A, ("f", B, B), ("k", ("k", (), B), ("k", B, ()))), (), ("k", (), ()), 5)]
+        for book, one, other, most in rows:
+            self.assertIs(is_book(book), True)
+            self.check(book, [(one, other), (other, one)], [sign for sign in own_signs(book) if sign != ("end", 0)], most)
+            self.check(book, list(itertools.combinations([form for _, form in closed_table(book)], 2))[::5], own_signs(book), 3)
 
     def test_equal_rows_are_alike(self):
         for book in BOOKS[::2]:

@@ -212,6 +212,7 @@ class Wanted(unittest.TestCase):
                     rows.append(({pair[0] for pair in rest}, own.stands((0,))))
             kept, vain = wanted(book, house), in_vain(book, house)
             self.assertEqual(tuple(sorted(kept + vain)), tuple(cell for cell, _ in house[1]))
+            self.assertEqual((list(kept), list(vain)), (sorted(kept), sorted(vain)))
             if rows:
                 least = min([row[0] for row in rows], key=len)
                 self.assertTrue(all(least <= row[0] for row in rows))
