@@ -3,10 +3,9 @@
 from notinvain.blots import blot_of
 from notinvain.books import first_signs, sides_with
 from notinvain.errors import CanNot, TooMany
-from notinvain.forms import has_name, is_form, is_term
+from notinvain.forms import has_name, is_form
 from notinvain.lots import least_barring
-from notinvain.needs import needed_tasks
-from notinvain.rows import Grown, closed_table, is_closed
+from notinvain.rows import Grown, closed_table, is_closed, row_if_standing
 from notinvain.runs import is_standing
 from notinvain.trees import OPEN, is_pair, open_in, put_all, spots, tupled
 
@@ -26,7 +25,8 @@ def always_needs(book):
 
 def lacks(book, form):
     """Whether form lacks."""
-    return is_standing(book, form) and not is_term(form) and not needed_tasks(book, form)
+    row = row_if_standing(book, form)
+    return row is not None and _row_lacks(row)
 
 
 def is_struck(book, form):

@@ -52,8 +52,8 @@ def is_pairs_by_cell(thing):
     return all([thing[number][0] < thing[number + 1][0] for number in range(len(thing) - 1)])
 
 
-def _made(book, plan, calls):
-    """The CELLS of (plan, calls), for what is tuples throughout; None if the calls cannot be made in any order."""
+def most_made(book, plan, calls):
+    """The CELLS of plan behind the most of calls that can be made in some order, for what is tuples throughout."""
     cells, waiting = Cells(book, plan), calls
     while waiting:
         left = []
@@ -63,7 +63,7 @@ def _made(book, plan, calls):
             else:
                 left.append((cell, reply))
         if len(left) == len(waiting):
-            return None
+            break
         waiting = left
     return cells
 
@@ -71,14 +71,14 @@ def _made(book, plan, calls):
 def cells_of(book, house):
     """The CELLS of house."""
     plan, calls = tupled(house)
-    return _made(tupled(book), plan, calls)
+    return most_made(tupled(book), plan, calls)
 
 
 def is_house(book, thing):
     """Whether thing is a HOUSE."""
     if not is_pair(thing) or not is_plan(thing[0]) or not is_pairs_by_cell(thing[1]):
         return False
-    return _made(tupled(book), thing[0], thing[1]) is not None
+    return len(most_made(tupled(book), thing[0], thing[1]).replies) == len(thing[1])
 
 
 def plan_of(form):
@@ -111,7 +111,7 @@ def all_cells(book, house):
     return tuple(sorted(cells_of(book, house).own))
 
 
-def _there(cells, cell):
+def there_in(cells, cell):
     """cell, which ought to be a CELL."""
     cell = tupled(cell)
     if cell not in cells.own:
@@ -122,13 +122,13 @@ def _there(cells, cell):
 def own_cell(book, house, cell):
     """The own cell of cell."""
     cells = cells_of(book, house)
-    return cells.own[_there(cells, cell)]
+    return cells.own[there_in(cells, cell)]
 
 
 def end_of(book, house, cell):
     """The CELL at the end of cell."""
     cells = cells_of(book, house)
-    return cells.end(_there(cells, cell))
+    return cells.end(there_in(cells, cell))
 
 
 def check_size(cells, cell):
@@ -152,7 +152,7 @@ def form_in(cells, cell):
 def cell_form(book, house, cell):
     """What stands in cell."""
     cells = cells_of(book, house)
-    return form_in(cells, _there(cells, cell))
+    return form_in(cells, there_in(cells, cell))
 
 
 def met_cells(book, house):
@@ -180,20 +180,20 @@ def placed(book, house):
 def cell_places(book, house, cell):
     """The set of the PLACES at which the CELL at the end of cell is met."""
     cells = cells_of(book, house)
-    own = cells.end(_there(cells, cell))
+    own = cells.end(there_in(cells, cell))
     return tuple([place for place, other in places_met(cells) if other == own])
 
 
 def cell_side(book, house, cell):
     """The SIDE that fits cell; None if none does."""
     cells = cells_of(book, house)
-    return cells.side(cells.end(_there(cells, cell)))
+    return cells.side(cells.end(there_in(cells, cell)))
 
 
 def found_cells(book, house, cell):
     """The CELLS that the OPEN PLACES of the SIDE that fits cell have met."""
     cells = cells_of(book, house)
-    return cells.found(cells.end(_there(cells, cell)))
+    return cells.found(cells.end(there_in(cells, cell)))
 
 
 def ready_in(cells):
@@ -233,7 +233,7 @@ def is_done(book, house):
 
 def checked_call(cells, cell):
     """cell, at which a call ought to be possible."""
-    cell = _there(cells, cell)
+    cell = there_in(cells, cell)
     if not cells.is_free(cell):
         raise CanNot()
     return cell
@@ -278,7 +278,7 @@ def causes_in(cells, cell):
 def causes(book, house, cell):
     """The set of the CELLS of the least part of the calls with which cell is there, and OPEN or due."""
     cells = cells_of(book, house)
-    cell = _there(cells, cell)
+    cell = there_in(cells, cell)
     if cell not in cells.links and not cells.is_free(cell):
         raise CanNot()
     return causes_in(cells, cell)
@@ -317,7 +317,7 @@ def sure_in(cells):
 def is_sure(book, house, cell):
     """Whether a mark at each PLACE of cell is not struck out of what stands in (0,)."""
     cells = cells_of(book, house)
-    cell = cells.end(_there(cells, cell))
+    cell = cells.end(there_in(cells, cell))
     if not cells.is_free(cell):
         raise CanNot()
     check_size(cells, _ROOT)

@@ -7,7 +7,7 @@ from notinvain.runs import is_ended
 from notinvain.trees import OPEN, agree, lies, open_in, part_at, put_all, spots_from_below, tupled
 
 
-def _closed(form, name):
+def closed(form, name):
     """form with name, without parts, in the place of each OPEN."""
     table = {}
     for place in open_in(form):
@@ -26,7 +26,7 @@ def _wanted_below(side, node):
     for place in open_in(node):
         part = part_at(side, place)
         if part is not None and part != OPEN:
-            wanted[place] = _closed(part, "end")
+            wanted[place] = closed(part, "end")
     return wanted
 
 
@@ -65,7 +65,7 @@ def made_into(sides, form, wish):
 def made_end(sides, form, name):
     """A RUN of form to the END that has name in the place of each OPEN of the BLOT."""
     whole = blot_of(tupled(sides), tupled(form))
-    return made_into(sides, form, _closed(whole, name))
+    return made_into(sides, form, closed(whole, name))
 
 
 def is_end_of(sides, form, other):
@@ -82,7 +82,7 @@ def can_meet(sides, form, other):
 def common_end(sides, parts):
     """An END that all parts have in common."""
     sides = tupled(sides)
-    return _closed(joined_all([blot_of(sides, part) for part in tupled(parts)]), "end")
+    return closed(joined_all([blot_of(sides, part) for part in tupled(parts)]), "end")
 
 
 def parting_place(sides, form, other):

@@ -134,7 +134,7 @@ def spelling_of(form):
     return tuple([own_sign(part) or () for place, part in spots(tupled(form))])
 
 
-def _is_sign(thing):
+def is_sign(thing):
     """Whether thing is the SIGN of some FORM."""
     return is_pair(thing) and is_name(thing[0]) and is_number(thing[1]) and 0 <= thing[1] <= 3
 
@@ -147,7 +147,7 @@ def form_spelled(row):
         if sign == ():
             done.append(OPEN)
             continue
-        if not _is_sign(sign) or sign[1] > len(done):
+        if not is_sign(sign) or sign[1] > len(done):
             raise CanNot()
         start = len(done) - sign[1]
         node = (sign[0],) + tuple(done[start:][::-1])

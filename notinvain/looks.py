@@ -2,8 +2,8 @@
 
 from notinvain.books import agreeing, first_signs, is_plain
 from notinvain.errors import CanNot, TooMany
-from notinvain.trees import OPEN, ascending, first_fitting, is_number, is_numbers, is_pair, lies, open_in, own_sign
-from notinvain.trees import part_at, put_all, spots, spots_from_below, standing_at, tupled
+from notinvain.trees import OPEN, ascending, first_fitting, is_number, is_numbers, is_pair, lies, open_form, open_in
+from notinvain.trees import own_sign, part_at, put_all, spots, spots_from_below, standing_at, tupled
 
 _MOST_TREES = 60
 
@@ -20,12 +20,7 @@ def _first_seen(book, sign):
     sign = tupled(sign)
     if sign not in first_signs(book):
         raise CanNot()
-    return _open_form(sign)
-
-
-def _open_form(sign):
-    """The FORM with this SIGN and OPEN parts."""
-    return (sign[0],) + (OPEN,) * sign[1]
+    return open_form(sign)
 
 
 def _looked_at(book, form):
@@ -53,7 +48,7 @@ def is_stuck(book, form):
 def _branches(book, numbers, seen, place):
     """The pairs of a SIGN that one of these SIDES has at place, and what is seen of it there."""
     signs = ascending([own_sign(part_at(book[own], place)) for own in numbers])
-    return [(sign, put_all(seen, {place: _open_form(sign)})) for sign in signs]
+    return [(sign, put_all(seen, {place: open_form(sign)})) for sign in signs]
 
 
 def _tree_or_stuck(book, seen):

@@ -237,7 +237,7 @@ def is_weighing(book, form, thing):
     return all([sum([weights[place] for place in lot]) * bottom >= top * whole for lot in lots])
 
 
-def _is_lot(thing, places):
+def is_lot(thing, places):
     """Whether thing is a set of some of places."""
     if not isinstance(thing, tuple) or not all(is_numbers(place) and place in places for place in thing):
         return False
@@ -248,7 +248,7 @@ def _is_spread(told, places, thing):
     """Whether thing is a spread; told tells, by its number, whether a LOT is enough."""
     if not isinstance(thing, tuple) or not thing or not all(is_pair(own) for own in thing):
         return False
-    if not all(_is_lot(lot, places) and is_number(number) and number >= 1 for lot, number in thing):
+    if not all(is_lot(lot, places) and is_number(number) and number >= 1 for lot, number in thing):
         return False
     lots = [lot for lot, number in thing]
     if tuple(lots) != ascending(lots):
@@ -271,9 +271,14 @@ def is_spread(book, form, thing):
 def blockers(lots):
     """The least sets of PLACES that have one in common with each of lots."""
     lots = tupled(lots)
-    places = ascending([place for lot in lots for place in lot])
-    if len(places) > _MOST_TASKS:
+    if len(ascending([place for lot in lots for place in lot])) > _MOST_TASKS:
         raise TooMany()
+    return least_blockers(lots)
+
+
+def least_blockers(lots):
+    """The least sets of what is in lots, of whatever kind, that have something in common with each of them."""
+    places = ascending([place for lot in lots for place in lot])
     numbers = sorted(set([sum([1 << places.index(place) for place in lot]) for lot in lots]))
     told = []
     for own in range(1 << len(places)):

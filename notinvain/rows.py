@@ -85,12 +85,18 @@ def _told(row):
     return (row[0], _numbers_in(row[1]), _numbers_in(row[2]), lots)
 
 
+def row_if_standing(book, form):
+    """The ROW of form; None if it is not standing."""
+    row = _row_of_form(_frames_of(book), tupled(form))
+    return None if row is None else _told(row)
+
+
 def row_of(book, form):
     """The ROW of form."""
-    row = _row_of_form(_frames_of(book), tupled(form))
+    row = row_if_standing(book, form)
     if row is None:
         raise CanNot()
-    return _told(row)
+    return row
 
 
 def row_over(book, name, rows):

@@ -127,6 +127,11 @@ def own_sign(form):
     return None if form == OPEN else (form[0], len(form) - 1)
 
 
+def open_form(sign):
+    """The FORM with this SIGN and OPEN parts."""
+    return (sign[0],) + (OPEN,) * sign[1]
+
+
 def open_in(form):
     """The tuple of the OPEN PLACES of form, ascending."""
     return tuple([place for place, part in spots(form) if part == OPEN])

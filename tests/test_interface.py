@@ -32,6 +32,22 @@ ENDED = (START[0], (((0,), ("end",)), ((1,), ("end",)), ((2,), ("b",))))
 BIG = (tuple(("k", number + 1, number + 1) for number in range(19)) + ((),), ())
 SIXTY = tuple(((0,) * (number + 1), ()) for number in range(60))
 ELEVEN_CALLS = (((),) * 11, tuple(((number,), ("a",)) for number in range(11)))
+CALLED = ((("f", 1), ("h", 2), ()), (((0,), ("end",)), ((1,), ("c",))))
+FEW = (START[0], (((0,), ("end",)), ((2,), ("b",))))
+CODE = (("enter", (), 3, 1), ("parts", 0, 2), ("leave",), ("open", 4), ("test", (), ("f", 2), 6, 5), ("leave",),
+        ("enter", (0,), 3, 7), ("test", (0,), ("a", 0), 10, 8), ("test", (0,), ("b", 0), 14, 9), ("leave",),
+        ("enter", (1,), 3, 11), ("test", (1,), ("b", 0), 13, 12), ("leave",), ("call", 3), ("call", 3))
+LOOP = (("test", (), ("a", 0), 0, 0),)
+# For each class its module, the arguments' names, and its methods with theirs.
+CLASSES = {
+    "Foe": ("foes", "book seed house level",
+            {"call": "cell", "waiting": "", "house": "", "log": "", "__len__": "", "bound": "", "settle": "", "world": "", "enough": ""}),
+    "Quickfoe": ("foes", "book seed house level", {"call": "cell", "waiting": "", "house": "", "log": "", "__len__": "", "world": ""}),
+    "Board": ("board", "book house",
+              {"send": "cell", "send_sure": "", "come": "cell reply", "recall": "cell", "undo": "", "redo": "", "house": "",
+               "out": "", "log": "", "shown": "", "is_over": "", "sure": "", "open_yet": "", "idle": "", "for_nothing": "",
+               "wanted": "", "in_vain": "", "twin": ""}),
+}
 
 # For each module its functions, each with its arguments' names and one or more rows of arguments.
 CALLS = {
@@ -246,6 +262,77 @@ CALLS = {
         ("spent_by", "book house world engine", (NEED, START, WORLD, ("left",)), (NEED, BIG, WORLD, ("all",))),
         ("race", "book house world row", (NEED, START, WORLD, (("need",), ("left",))), (NEED, BIG, WORLD, (("all",),))),
     ),
+    "foes": (
+        ("is_seed", "book thing", (THREE, WIDE), (THREE, ("f", ("a",), (), ()))),
+        ("ways", "book seed", (THREE, WIDE), (THREE, ELEVEN), (THREE, ())),
+        ("slack", "book seed level", (THREE, WIDE, 2), (THREE, ELEVEN, 0), (NEED, TWO, 1)),
+        ("quick_costs", "book seed level", (THREE, WIDE, 2), (THREE, ELEVEN, 0), (NEED, TWO, 1)),
+        ("coin_worlds", "book seed number", (THREE, WIDE, 2), (THREE, ELEVEN, 1), (NEED, TWO, 1)),
+    ),
+    "follows": (
+        ("follows", "sides other", (CHAIN, (HC,)), ((HC,), CHAIN)),
+        ("reasons", "sides other", (CHAIN, (("f", ("h", ())),)), (CHAIN, (("f", ("g", ())),))),
+        ("are_reasons", "sides other thing", (CHAIN, (("f", ("h", ())),), ((((0,), 1), ((), 0)),)), (CHAIN, (HC,), ((),))),
+        ("odd_form", "sides other", ((HC,), CHAIN), (CHAIN, (HC,))),
+        ("is_odd_form", "sides other thing", ((HC,), CHAIN, ("h", ())), (CHAIN, (HC,), ())),
+        ("idle_sides", "sides", ((("f", ("c",)), ("f", ("h", ())), ("h", ())),)),
+        ("with_side", "book side", (NEED, ("g", ())), (CHAIN, ("f", ("h", ())))),
+        ("both_books", "book other", (NEED, CHAIN), (CHAIN, (("f", ("h", ())),))),
+        ("without_side", "book side", (CHAIN, ("h", ())), (CHAIN, ("h", ("a",)))),
+        ("own_lacking", "book other form", (THREE, (("k", ("c",)),), ("f", ("k", ()), (), ())), (THREE, NEED, WIDE),
+         (THREE, (("k", ("c",)),), ("k", ()))),
+        ("clashes", "book", (THREE,), (NOT_PLAIN,)),
+        ("healings", "book", (THREE,), (NOT_PLAIN,)),
+        ("turned_tasks", "book other form", (CHAIN, (("f", ("c",)),), ("f", ("h", ())))),
+        ("kept_house", "book other house", (CHAIN, (("h", ()),), CALLED)),
+        ("lost_calls", "book other house", (CHAIN, (("f", ("c",)),), CALLED)),
+    ),
+    "code": (
+        ("is_code", "thing", ((("leave",),),), ((("call", 1),),)),
+        ("code_of", "trees", (((("f", 2), TREE),),)),
+        ("book_code", "book", (ONE,), (THREE,), (NOT_PLAIN,)),
+        ("trees_in", "code", (CODE,), (LOOP,)),
+        ("first_state", "form", (TWO,)),
+        ("ran", "code state", (CODE, (TWO, 0, (), ())), (CODE, (TWO, 15, (), ())), (LOOP, (TWO, 0, (), ())),
+         ((("enter", (2,), 0, 0),), (TWO, 0, (), ()))),
+        ("replied", "state answer", ((TWO, 3, (0,), ((1, ()),)), ("g", ()))),
+        ("run_code", "code form answers", (CODE, ("f", TWO, ()), (("a",), ("b",))), ((("enter", (2,), 0, 0),), TWO, ())),
+        ("least_code", "code", (CODE,)),
+        ("do_alike", "code other", (CODE, CODE), (CODE, LOOP)),
+    ),
+    "judge": (
+        ("is_claim", "thing", (("always", NEED),), (("sure", NEED),)),
+        ("stands", "claim", (("shown", BOTH, ("f", ("c",), ()), ("f", ("c",), ())),), (("sure", NEED),), (("always", TOO_MANY),)),
+        ("paper_against", "claim", (("bars", THREE, WIDE, ((0,),)),), (("always", THREE),), (("bars", NEED, TWO, ((),)),)),
+        ("is_paper_against", "claim thing", (("always", THREE), WIDE), (("always",), WIDE)),
+        ("first_fallen", "claims", ((("always", NEED), ("apart", BOTH, (), ())),), ((("always", THREE), ("no",)),)),
+        ("reason_for", "claim", (("rounds", NEED, FEW, 1),), (("always", THREE),), (("apart", BOTH, ("a",), ("b",)),)),
+        ("is_reason_for", "claim thing", (("rounds", NEED, FEW, 1), ((2,), (0,))), (("apart", BOTH, ("a",), ("b",)), ())),
+    ),
+    "texts": (
+        ("form_word", "form", (LEFT,)),
+        ("reply_word", "reply", (("f", 2, ()),)),
+        ("cell_word", "cell", ((0, 2),)),
+        ("form_text", "form", (LEFT,)),
+        ("sides_text", "sides", (CHAIN,)),
+        ("plan_text", "plan", (START[0],)),
+        ("house_text", "house", (ENDED,)),
+        ("world_text", "world", (WORLD,)),
+        ("log_text", "log", (((2,), (0, 1)),)),
+        ("form_of", "word", ("f(_,g(a,_))",), ("f()",)),
+        ("reply_of", "word", ("f(2,_)",), ("02",)),
+        ("cell_of", "word", ("0.2",), ("",)),
+        ("read_form", "text", ("form f(_)\n",), ("form f(_)\n\n",)),
+        ("read_sides", "text", ("side f(_)\nside g(_)",), ("side end",)),
+        ("read_plan", "text", ("cell f 1\ncell _\n",), ("cell f 1\n",), ("cell",)),
+        ("read_house", "text", ("cell _\ncall 0 a\n",), ("cell f 1\n",), ("",)),
+        ("read_world", "text", ("reply 0.1 3",), ("reply 0",)),
+        ("read_log", "text", ("called 1\ncalled 0",), ("called 1\ncalled 1",)),
+    ),
+    "desk": (
+        ("is_request", "thing", ("come 1 g(0)",), (1,)),
+        ("replies", "book house text", (NEED, START, "sure\nundo"), (NEED, START, "sure\n")),
+    ),
 }
 
 # By an argument's name, what is passed for it beside the rows above: FORMS with OPEN in them, and the like.
@@ -265,6 +352,13 @@ VALUES = {
     "hands": (1, 3, 0), "engine": (("need",), ("lots",), ("picks", (1, 0))),
     "prices": ((), (1,), (2, 1)), "lots": ((), (((0,), (1,)), ((0,),)), ((),)), "depth": (0, 2), "size": (3, 11),
     "rows": ((), (ROW,), (ROW, (0, (0,), (0,), ()))),
+    "seed": (WIDE, TWO), "level": (0, 3), "foes book": (THREE, CHAIN), "follows other": SOME_SIDES, "own_lacking other": SOME_SIDES[:2],
+    "trees": ((), ((("f", 2), TREE),)), "code": (CODE, CODE[:1] * 4, (("leave",),)), "code other": (CODE, (("leave",),)),
+    "state": ((TWO, 0, (), ()), (("f", ("a",), ("b",)), 6, (), ((1, ()),)), (TWO, 9, (0,), ((0, (5,)),)), (TWO, 15, (), ())),
+    "claim": (("always", THREE), ("shown", CHAIN, HC, ()), ("apart", CHAIN, HC, ()), ("bars", NEED, TWO, ((0,),)), ("follows", CHAIN, ()),
+              ("alike", THREE, ("a",), ("b",)), ("tree", THREE, ("f", 3)), ("wants", NEED, START, WORLD, ((2,),)), ("rounds", NEED, FEW, 2)),
+    "claims": ((), (("always", NEED), ("always", THREE)), (("tree", NEED, ("f", 2)), ())),
+    "word": ("f(_,g(a,_))", "0", "a.b", "0.1", ""), "plan": (START[0], ((),)), "text": ("", "form _\n", "cell _", "reply 0 0\n", "called 0\nout"),
     "lot": (((0,),), ((), (0, 0))), "places": (((0,),), ((), (0, 0)), ((1,), (1, 0))), "order": (((0,), ()), ((), (0,))),
     "strikes": ((), (((0,), 1),), (((0,), 1), ((), 0))),
     "thing": ((), ("h", ()), (((0,), 1),), (((0,), ("a",)), ((0,), ())), SOME_SIDES[2], (0, 1, ())),
@@ -281,12 +375,17 @@ def rows_of_calls():
     return out
 
 
+def values_for(module, name, word):
+    """What is passed for the argument word of the function name of a module."""
+    return VALUES.get(name + " " + word) or VALUES.get(module + " " + word) or VALUES[word]
+
+
 def came(deed, *row, **named):
     """What comes of a call: what it returns, or its error with all that this keeps."""
     try:
         out = deed(*row, **named)
         # These return a list, each time a new one.
-        if deed.__name__ in ("placed", "rounds", "rounds_by"):
+        if deed.__name__ in ("placed", "rounds", "rounds_by", "replies"):
             assert isinstance(out, list) and out is not deed(*row, **named)
             out = tuple(out)
         return ("returned", out)
@@ -310,8 +409,19 @@ class Interface(unittest.TestCase):
                 self.assertEqual((own.__module__, own.__name__), ("notinvain." + module, name))
                 self.assertEqual(list(inspect.signature(own).parameters), words.split(), name)
 
+    def test_classes(self):
+        for name, (module, words, methods) in CLASSES.items():
+            own = getattr(importlib.import_module("notinvain." + module), name)
+            self.assertTrue(inspect.isclass(own), name)
+            self.assertEqual((own.__module__, own.__bases__), ("notinvain." + module, (object,)), name)
+            self.assertEqual(list(inspect.signature(own).parameters), words.split(), name)
+            for method, names in methods.items():
+                self.assertIn(method, vars(own), name)
+                self.assertEqual(list(inspect.signature(vars(own)[method]).parameters)[1:], names.split(), method)
+
     def test_how_many(self):
-        self.assertEqual([len(CALLS[module]) for module in CALLS], [20, 21, 16, 14, 7, 11, 14, 8, 10, 16, 21, 16, 9])
+        self.assertEqual([len(CALLS[module]) for module in CALLS], [20, 21, 16, 14, 7, 11, 14, 8, 10, 16, 21, 16, 9,
+                                                                5, 15, 10, 7, 18, 2])
 
     def test_no_error_that_is_not_of_the_package(self):
         for deed, _, row in rows_of_calls():
@@ -341,7 +451,7 @@ class Interface(unittest.TestCase):
             home = importlib.import_module("notinvain." + module)
             for name, words, *_ in functions:
                 deed, names = getattr(home, name), words.split()
-                for row in itertools.product(*[VALUES.get(module + " " + name, VALUES.get(name)) for name in names]):
+                for row in itertools.product(*[values_for(module, name, word) for word in names]):
                     own = [part if name == "thing" else as_lists(part) for name, part in zip(names, row)]
                     told = came(deed, *row)
                     self.assertIn(told[0], ("returned", "notinvain.errors"), (name, row))

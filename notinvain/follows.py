@@ -1,0 +1,149 @@
+"""SIDES that follow others, BOOKS that are joined and edited, and what is kept of a HOUSE then."""
+
+from itertools import combinations
+
+from notinvain.always import lacks
+from notinvain.blots import blot_of, blot_rows, is_whole
+from notinvain.books import first_signs, is_book, is_plain, sides_with, signs_of
+from notinvain.cells import most_made
+from notinvain.ends import closed
+from notinvain.errors import CanNot, Unfit
+from notinvain.forms import has_name, is_form
+from notinvain.looks import tree_of
+from notinvain.lots import least_blockers
+from notinvain.runs import tasks
+from notinvain.trees import OPEN, ascending, lies, own_sign, put_all, spots, tupled
+
+_NOTHING = ("end",)
+
+
+def follows(sides, other):
+    """Whether sides strike out of each FORM whatever other strikes out."""
+    return odd_form(sides, other) is None
+
+
+def odd_form(sides, other):
+    """A FORM whose BLOT by sides does not lie in its BLOT by other; None if there is none."""
+    sides = tupled(sides)
+    for side in tupled(other):
+        whole = closed(side, "end")
+        if blot_of(sides, whole) != OPEN:
+            return whole
+    return None
+
+
+def is_odd_form(sides, other, thing):
+    """Whether thing is such a FORM, without marks."""
+    if not is_form(thing) or has_name(thing, "mark"):
+        return False
+    return not lies(blot_of(tupled(sides), thing), blot_of(tupled(other), thing))
+
+
+def reasons(sides, other):
+    """For each SIDE of other whole STRIKES by sides that leave OPEN of it; None if there are none."""
+    if not follows(sides, other):
+        return None
+    return tuple([blot_rows(sides, closed(side, "end")) for side in tupled(other)])
+
+
+def are_reasons(sides, other, thing):
+    """Whether thing is a tuple of such STRIKES."""
+    other = tupled(other)
+    if not isinstance(thing, tuple) or len(thing) != len(other) or not follows(sides, other):
+        return False
+    return all([is_whole(sides, closed(side, "end"), own) for side, own in zip(other, thing)])
+
+
+def idle_sides(sides):
+    """The set of the SIDES that the others follow without them."""
+    sides = tupled(sides)
+    return tuple([side for side in sides if follows([own for own in sides if own != side], (side,))])
+
+
+def _checked_book(sides):
+    """sides, which ought to be a BOOK."""
+    if not is_book(sides):
+        raise Unfit()
+    return sides
+
+
+def with_side(book, side):
+    """book with side."""
+    return _checked_book(ascending(tupled(book) + (tupled(side),)))
+
+
+def both_books(book, other):
+    """The BOOK of all SIDES of both."""
+    return _checked_book(ascending(tupled(book) + tupled(other)))
+
+
+def without_side(book, side):
+    """book without side."""
+    book, side = tupled(book), tupled(side)
+    if side not in book:
+        raise CanNot()
+    return tuple([own for own in book if own != side])
+
+
+def _with_own_signs(book, signs, form):
+    """form as far as it has these SIGNS from the root on; the rest is OPEN if it is struck whole, else ("end",)."""
+    table = {}
+    for place, part in spots(form):
+        if part != OPEN and own_sign(part) not in signs:
+            table[place] = OPEN if blot_of(book, part) == OPEN else _NOTHING
+    return put_all(form, table)
+
+
+def own_lacking(book, other, form):
+    """The number, 0 or 1, of one of the two BOOKS, and a FORM of its own SIGNS that lacks by it."""
+    both, rows = tupled(book) + tupled(other), [(own, signs_of(own)) for own in (book, other)]
+    if any([sign in rows[1][1] for sign in rows[0][1]]) or not lacks(both, form):
+        raise CanNot()
+    # Were there a needed TASK in each of these, one of form would be needed.
+    out = []
+    for place, part in spots(tupled(form)):
+        for number, (own, signs) in enumerate(rows):
+            if own_sign(part) in signs:
+                whole = _with_own_signs(both, signs, part)
+                if lacks(own, whole):
+                    out.append((number, whole))
+    return out[0]
+
+
+def clashes(book):
+    """The set of all sets of SIDES of book that do not always need, though each part of them does."""
+    if not is_plain(book):
+        raise CanNot()
+    out = []
+    for sign in first_signs(book):
+        own = sides_with(book, sign)
+        for size in range(1, len(own) + 1):
+            for row in combinations(list(own), size):
+                known = any([all([side in row for side in less]) for less in out])
+                if not known and tree_of(row, sign) is None:
+                    out.append(row)
+    return tuple(sorted(out))
+
+
+def healings(book):
+    """The set of all least sets of SIDES without which book always needs."""
+    return least_blockers(clashes(book))
+
+
+def turned_tasks(book, other, form):
+    """The set of the PLACES that are TASKS of form by one of both BOOKS alone."""
+    one, two = tasks(book, form), tasks(other, form)
+    return tuple(sorted([place for place in one if place not in two] + [place for place in two if place not in one]))
+
+
+def kept_house(book, other, house):
+    """house with the most of its calls that can be made by the SIDES that both BOOKS have."""
+    other, (plan, calls) = tupled(other), tupled(house)
+    shared = tuple([side for side in tupled(book) if side in other])
+    return most_made(shared, plan, calls).house()
+
+
+def lost_calls(book, other, house):
+    """The set of the cell names of the other calls of house."""
+    kept = [cell for cell, reply in kept_house(book, other, house)[1]]
+    return tuple([cell for cell, reply in tupled(house)[1] if cell not in kept])
