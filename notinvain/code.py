@@ -86,21 +86,18 @@ class Reader:
         self.at = self.at + 1 if self.row() == row else None
 
     def tree(self, seen):
-        """The TREE that is next, for what is seen; None if there is none."""
+        """The TREE that is next, for what is seen; there is none if at is None then."""
         if self.row() == ("call", _WORK):
             self.at += 1
             return ("found", seen)
-        if self.row()[0] != "enter" or part_at(seen, self.row()[1]) != OPEN:
+        if self.row()[0] != "enter":
             self.at = None
             return None
         place = self.row()[1]
         self.at += 1
         rows = []
         for sign in self.branches(place):
-            tree = self.tree(put_all(seen, {place: open_form(sign)}))
-            if self.at is None:
-                return None
-            rows.append((sign, tree))
+            rows.append((sign, self.tree(put_all(seen, {place: open_form(sign)}))))
         return ("look", place, tuple(rows))
 
 
@@ -127,10 +124,7 @@ def trees_in(code):
     # What is read is read in the order of the rows; whether their numbers fit is told by the CODE that comes of it.
     trees = []
     for sign in reader.branches(()):
-        tree = reader.tree(open_form(sign))
-        if reader.at is None:
-            return None
-        trees.append((sign, tree))
+        trees.append((sign, reader.tree(open_form(sign))))
     return tuple(trees) if reader.at == len(code) and code_of(trees) == code and _are_trees(trees) else None
 
 

@@ -89,7 +89,7 @@ def _with_own_signs(book, signs, form):
     """form as far as it has these SIGNS from the root on; the rest is OPEN if it is struck whole, else ("end",)."""
     table = {}
     for place, part in spots(form):
-        if part != OPEN and own_sign(part) not in signs:
+        if own_sign(part) not in signs:
             table[place] = OPEN if blot_of(book, part) == OPEN else _NOTHING
     return put_all(form, table)
 
@@ -103,10 +103,9 @@ def own_lacking(book, other, form):
     out = []
     for place, part in spots(tupled(form)):
         for number, (own, signs) in enumerate(rows):
-            if own_sign(part) in signs:
-                whole = _with_own_signs(both, signs, part)
-                if lacks(own, whole):
-                    out.append((number, whole))
+            whole = _with_own_signs(both, signs, part)
+            if lacks(own, whole):
+                out.append((number, whole))
     return out[0]
 
 

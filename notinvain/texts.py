@@ -115,13 +115,14 @@ def _read_tree(word, most):
             rows[-1].append(OPEN)
         elif wanting and (is_name(sign) or _is_figures(sign)):
             rows[-1].append((sign,) if is_name(sign) else sign)
-        elif not wanting and sign == "(" and is_name(ahead):
+        elif sign == "(" and is_name(ahead):
             own = rows[-1].pop()
             rows.append(list(own))
         elif not wanting and sign == ")" and len(rows) > 1:
             own = tuple(rows.pop())
             rows[-1].append(own)
-        elif wanting or sign != "," or not 1 < len(rows[-1]) < 4 or len(rows) == 1:
+        elif wanting or sign != "," or not 1 < len(rows[-1]) < 4:
+            # The outermost row has one item only.
             return None
         ahead = sign
     return rows[0][0] if len(rows) == 1 and ahead not in ("(", ",") else None
@@ -130,7 +131,7 @@ def _read_tree(word, most):
 def form_of(word):
     """The FORM with this word; None if there is none."""
     form = _read_tree(word, _MOST_PLACES)
-    if form is None or not is_form(form) or max([len(place) for place, part in spots(form)]) > _MOST_NUMBERS:
+    if not is_form(form) or max([len(place) for place, part in spots(form)]) > _MOST_NUMBERS:
         return None
     return form
 
@@ -193,7 +194,7 @@ def read_sides(text):
     out = []
     for number, words in enumerate(_lines_of(text)):
         side = _form_in("side", words)
-        if side is None or not is_side(side) or out and out[-1] >= side:
+        if not is_side(side) or out and out[-1] >= side:
             raise BadLine(number)
         out.append(side)
     return tuple(out)

@@ -240,6 +240,11 @@ class Trees(unittest.TestCase):
                       ((("f", 2), ("look", (0,), ((("b", 0), ("found", ("f", B, ()))), (("a", 0), ("found", ("f", A, ())))))),),
                       ((("f", 2), ("look", (2,), ((("a", 0), ("found", ("f", A, ()))),))),),
                       ((("f", 2), ("look", (0,), ((("f", 1), ("found", ("f", ("f", ()), ()))),))), (("f", 1), ("found", ("f", ())))),
+                      # The SIDES f(g(a)) and g(b) are a BOOK, but no plain one.
+                      ((("f", 1), ("look", (0,), ((("g", 1), ("look", (0, 0), ((("a", 0), ("found", ("f", ("g", A)))),))),))),
+                       (("g", 1), ("look", (0,), ((("b", 0), ("found", ("g", B))),)))),
+                      ((("f", 2), ("look", (0,), ((("a", 0), ("look", (0,), ((("a", 0), ("found", ("f", A, ()))),))),))),),
+                      ((("f", 2), ("look", (), ((("a", 0), ("found", A)),))),),
                       ((("f", 2), ("look", (0,), ((("g", 1), ("look", (0,), ((("a", 0), ("found", ("f", A, ()))),))),))),)):
             code = plain_code(trees)
             self.assertIs(is_code(code), True)

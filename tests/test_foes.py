@@ -366,6 +366,23 @@ class Foes(unittest.TestCase):
             for engine in ENGINES + (None,) * 6:
                 self.play(book, WIDE, house, rnd.randint(0, 2), engine, rnd.randint(0, 12), rnd)
 
+    def test_lots_of_unlike_sizes(self):
+        """Which way is taken hangs on all calls of the parts, those of the parts themselves among them."""
+        rnd = random.Random(9)
+        seeds = [(book, seed) for book, seed in SEEDS if len({len(lot) for lot, run in ways(book, seed)}) > 1]
+        self.assertGreater(len(seeds), 10)
+        for _ in range(400):
+            book, seed = rnd.choice(seeds)
+            foe = Foe(book, seed, ONE, 2)
+            plain = PlainFoe(seed, ways(book, seed), ((0,),), 2)
+            for _ in range(rnd.randint(4, 12)):
+                cell = rnd.choice(foe.waiting()[:rnd.randint(1, 12)])
+                self.assertEqual(foe.call(cell), plain.foe_call(cell))
+            foe.settle()
+            told = {}
+            self.assertEqual(foe.enough(), tuple(plain.settle((0,), END, told)))
+            self.assertEqual(foe.world(), as_world({**dict(foe.house()[1]), **told}))
+
     def test_levels(self):
         rnd = random.Random(3)
         for level in (0, 1, 2, 3):

@@ -203,6 +203,9 @@ class Claims(unittest.TestCase):
             self.assertIs(is_claim(("wants", RIGHT, HOUSE, WORLD, cells)), False)
         self.assertIs(is_claim(("bars", RIGHT, ("f", (), B), ((),))), True)
         self.assertIs(is_claim(("alike", RIGHT, ("f", (), B), A)), False)
+        self.assertIs(is_claim(("alike", RIGHT, A, ("f", (), B))), False)
+        self.assertIs(is_claim(("tree", (("g", A),), ("g", 1))), True)
+        self.assertIs(is_claim(("tree", (("g", A),), ("g", True))), False)
         self.assertIs(is_claim(("tree", NOT_PLAIN, ("f", 1))), False)
         self.assertIs(is_claim(("tree", RIGHT, ("b", 0))), False)
         self.assertIs(is_claim(("always", CHAIN + (("f", ("h", ())),))), False)
@@ -582,6 +585,13 @@ class Rounds(unittest.TestCase):
     def test_sixty_calls(self):
         house = (((),) * 20, tuple(((number,), END) for number in range(20)))
         self.assertIs(stands(("rounds", RIGHT, house, 0)), True)
+        # Sixty hands, and no more.
+        for many in (60, 61):
+            plan = tuple(("k", number + 1, many + number) for number in range(many - 1)) + ((),) * many
+            row = tuple((number,) for number in range(many - 1, many * 2 - 1))
+            house = (plan, tuple((cell, END) for cell in row))
+            self.assertEqual((len(row), is_done(RIGHT, house)), (many, True))
+            self.assertIs(is_paper_against(("rounds", RIGHT, house, 5), (row,)), many == 60)
         plan = (("k", 1, 2, 3), ("k", 4, 5, 6), ("k", 7, 8, 9), ("k", 10, 11, 12)) + ((),) * 9
         calls = [((number,), ("k", ("k", (), (), ()), (), ())) for number in range(4, 12)]
         calls += [((number,) + own, END) for number in range(4, 12) for own in ((2,), (3,), (4,), (5,), (6,))] + [((12,), END)]

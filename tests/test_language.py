@@ -110,7 +110,8 @@ class Language(unittest.TestCase):
         for file, tree in trees():
             top = list(top_names(tree))
             self.assertEqual(len(top), len(set(top)), file)
-            barred = set(BARRED_NAMES) | set(dir(builtins))
+            # A doctest in the same run leaves "_" there.
+            barred = (set(BARRED_NAMES) | set(dir(builtins))) - {"_"}
             self.assertFalse(barred & set(bound_names(tree)) - {"__init__"}, file)
             brought = {name.name for node in tree.body if isinstance(node, ast.ImportFrom) for name in node.names}
             brought |= {node.name for node in tree.body if isinstance(node, ast.ClassDef)}
@@ -119,7 +120,7 @@ class Language(unittest.TestCase):
                     self.assertFalse(brought & set(bound_names(node)), (file, node.name))
             used = {node.id for node in ast.walk(tree) if isinstance(node, ast.Name)}
             self.assertFalse(brought - used - {node.name for node in tree.body if isinstance(node, ast.ClassDef)}, file)
-            outside = {name for name in used if hasattr(builtins, name)}
+            outside = {name for name in used - {"_"} if hasattr(builtins, name)}
             self.assertFalse(outside - set(BUILTINS), file)
 
     def test_functions_do_not_hide_functions(self):
