@@ -90,7 +90,8 @@ class Reader:
         if self.row() == ("call", _WORK):
             self.at += 1
             return ("found", seen)
-        if self.row()[0] != "enter":
+        # Only at an OPEN PLACE of what is seen: else looks within looks could be deeper than any FORM.
+        if self.row()[0] != "enter" or part_at(seen, self.row()[1]) != OPEN:
             self.at = None
             return None
         place = self.row()[1]

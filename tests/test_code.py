@@ -251,6 +251,13 @@ class Trees(unittest.TestCase):
             self.assertIsNone(trees_in(code), trees)
         for code in (LOOP, ALONE, code_of(())[:4] + (("call", 3),), code_of(())[::-1], (("enter", (0,), 0, 0),) * 5):
             self.assertIsNone(trees_in(code))
+        # Looks within looks, all at one PLACE.
+        rows = [("enter", (), 3, 1), ("parts", 0, 2), ("leave",), ("open", 4), ("test", (), ("g", 1), 6, 5), ("leave",)]
+        for _ in range(1500):
+            rows += [("enter", (0,), 3, len(rows) + 1), ("test", (0,), ("a", 0), len(rows) + 3, len(rows) + 2), ("leave",)]
+        rows = tuple(rows + [("call", 3)])
+        self.assertIs(is_code(rows), True)
+        self.assertIsNone(trees_in(rows))
         # Rows that belong to two looks at once.
         shared = (("enter", (), 3, 1), ("parts", 0, 2), ("leave",), ("open", 4), ("test", (), ("f", 2), 7, 5), ("test", (), ("g", 2), 7, 6),
                   ("leave",), ("enter", (0,), 3, 8), ("test", (0,), ("a", 0), 10, 9), ("leave",), ("call", 3))
