@@ -3,7 +3,7 @@
 from notinvain.always import is_verdict, lacks, least_form, verdict
 from notinvain.blots import blot, blot_rows, is_whole
 from notinvain.books import first_signs, is_book, is_plain, is_sides
-from notinvain.cells import causes, is_cell_name, is_done, is_house
+from notinvain.cells import causes_in, cells_of, is_cell_name, is_done, is_house
 from notinvain.ends import can_meet, common_end, is_end_of, made_end
 from notinvain.errors import Unfit
 from notinvain.follows import are_reasons, is_odd_form, odd_form, reasons
@@ -205,10 +205,10 @@ def _is_chain(book, house, number, thing):
     """Whether thing is a tuple of more than number CELLS wanted, each among the causes of the next one."""
     if not isinstance(thing, tuple) or len(thing) <= number:
         return False
-    kept = wanted(book, house)
+    kept, cells = wanted(book, house), cells_of(book, house)
     if not all([is_numbers(cell) and cell in kept for cell in thing]):
         return False
-    return all([thing[at] in causes(book, house, thing[at + 1]) for at in range(len(thing) - 1)])
+    return all([thing[at] in causes_in(cells, thing[at + 1]) for at in range(len(thing) - 1)])
 
 
 def is_reason_for(claim, thing):
