@@ -2,7 +2,7 @@
 
 from notinvain.errors import CanNot
 from notinvain.trees import OPEN, agree, first_agreeing, is_number, is_pair, lies, over_last, part_at, put_all
-from notinvain.trees import spots, spots_from_below, standing_at, tupled
+from notinvain.trees import same, spots, spots_from_below, standing_at, tupled
 
 
 def pass_from_below(sides, form):
@@ -94,7 +94,8 @@ def struck(sides, form, strikes):
 
 def is_whole(sides, form, thing):
     """Whether thing is whole STRIKES of form."""
-    return _left_by(tupled(sides), tupled(form), thing) == blot(sides, form)
+    left = _left_by(tupled(sides), tupled(form), thing)
+    return left is not None and same(left, blot(sides, form))
 
 
 def _next_strike(sides, form, order):

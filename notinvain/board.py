@@ -3,7 +3,7 @@
 from notinvain.blots import blot_of
 from notinvain.cells import cells_of, check_size, checked_call, form_in, ready_in, sure_in, there_in
 from notinvain.errors import CanNot, NothingDone
-from notinvain.trees import tupled
+from notinvain.trees import same, tupled
 from notinvain.worlds import wanted_in
 
 _ROOT = (0,)
@@ -21,7 +21,7 @@ class Board:
 
     def _go(self, state):
         """Makes this the state."""
-        if state[0] != self._cells.house():
+        if not same(state[0], self._cells.house()):
             self._cells = cells_of(self._book, state[0])
         self._state = state
 

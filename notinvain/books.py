@@ -2,7 +2,7 @@
 
 from notinvain.errors import CanNot, NoNumber, NoPlace
 from notinvain.forms import has_name, is_form
-from notinvain.trees import OPEN, agree, ascending, first_fitting, is_number, is_numbers, join_of, lies
+from notinvain.trees import OPEN, agree, ascending, first_fitting, flat, is_number, is_numbers, join_of, lies
 from notinvain.trees import open_in, own_sign, part_at, put_all, spots, standing_at, tupled
 
 _BARRED = ("end", "stop", "mark")
@@ -19,7 +19,8 @@ def is_sides(thing):
     """Whether thing is SIDES: a set of SIDES."""
     if not isinstance(thing, tuple) or not all(is_side(side) for side in thing):
         return False
-    return all(thing[number] < thing[number + 1] for number in range(len(thing) - 1))
+    rows = [flat(side) for side in thing]
+    return all(rows[number] < rows[number + 1] for number in range(len(rows) - 1))
 
 
 def is_book(thing):

@@ -1,9 +1,9 @@
 """CODE for a machine that works a FORM out: made of TREES, run, and made as short as can be."""
 
-from notinvain.books import first_signs, is_book, is_plain
+from notinvain.books import first_signs, is_side
 from notinvain.errors import CanNot, NoNumber, TooMany
 from notinvain.forms import is_sign
-from notinvain.looks import has_trees, is_tree, tree_of
+from notinvain.looks import has_trees, tree_of, tree_over
 from notinvain.trees import OPEN, ascending, is_number, is_numbers, open_form, own_sign, part_at, put_all, tupled
 
 # How many members a row has, by its word, and where its numbers of rows begin: they are the last ones.
@@ -31,28 +31,34 @@ def is_code(thing):
     return isinstance(thing, tuple) and bool(thing) and all([_is_row(row, len(thing)) for row in thing])
 
 
-def _rows_for(tree, first):
-    """The rows of tree, of which the first one has this number."""
-    if tree[0] == "found":
-        return [("call", _WORK)]
-    _, place, branches = tree
-    rows, more = [("enter", place, _WORK, first + 1)], []
-    for number, (sign, own) in enumerate(branches):
-        at = first + 2 + len(branches) + len(more)
-        rows.append(("test", place, sign, at, first + 2 + number))
-        more.extend(_rows_for(own, at))
-    return rows + [("leave",)] + more
+def _add_tests(rows, place, branches):
+    """Adds to the list rows those that ask for the SIGNS of branches at place, and "leave".
+
+    Pairs of the number of a test and the TREE of its branch, the last one first; the row with which this
+    TREE begins is not told in the test yet.
+    """
+    waiting = []
+    for sign, tree in branches:
+        waiting.append((len(rows), tree))
+        rows.append(("test", place, sign, 0, len(rows) + 1))
+    rows.append(("leave",))
+    return waiting[::-1]
 
 
 def code_of(trees):
     """The CODE of these pairs of a SIGN and a TREE of it."""
-    trees = tupled(trees)
-    rows, more = list(_START), []
-    for number, (sign, tree) in enumerate(trees):
-        at = len(_START) + len(trees) + 1 + len(more)
-        rows.append(("test", (), sign, at, len(_START) + number + 1))
-        more.extend(_rows_for(tree, at))
-    return tuple(rows + [("leave",)] + more)
+    rows = list(_START)
+    waiting = _add_tests(rows, (), tupled(trees))
+    while waiting:
+        number, tree = waiting.pop()
+        rows[number] = rows[number][:3] + (len(rows), number + 1)
+        if tree[0] == "found":
+            rows.append(("call", _WORK))
+            continue
+        _, place, branches = tree
+        rows.append(("enter", place, _WORK, len(rows) + 1))
+        waiting.extend(_add_tests(rows, place, branches))
+    return tuple(rows)
 
 
 def book_code(book):
@@ -63,70 +69,85 @@ def book_code(book):
 
 
 class Reader:
-    """Reads TREES off the rows of code, from row at on; at is None as soon as there are none."""
+    """Reads TREES off the rows of code, in their order; at is None as soon as there are none.
 
-    def __init__(self, code, at):
-        self.code, self.at = code, at
+    Of the numbers in the rows nothing is asked: whether they fit is told by the CODE that comes of the TREES.
+    """
+
+    def __init__(self, code):
+        self.code, self.at = code, len(_START)
 
     def row(self):
         """The row that is next."""
         return self.code[self.at] if self.at is not None and self.at < len(self.code) else ("none",)
 
-    def branches(self, place):
-        """The SIGNS of the tests at place that are next, with the row of "leave" behind them."""
+    def look(self, place):
+        """The node of a look at place: its SIGNS are those of the tests that are next, with "leave" behind them."""
         signs = []
         while self.row()[:2] == ("test", place):
             signs.append(self.row()[2])
             self.at += 1
-        self.skip(("leave",))
-        return signs
+        self.at = self.at + 1 if self.row() == ("leave",) else None
+        return ("look", place, signs)
 
-    def skip(self, row):
-        """Goes over the row that is next, which ought to be this one."""
-        self.at = self.at + 1 if self.row() == row else None
-
-    def tree(self, seen):
-        """The TREE that is next, for what is seen; there is none if at is None then."""
-        if self.row() == ("call", _WORK):
+    def node(self, seen):
+        """The node that is next, for what is seen."""
+        row = self.row()
+        if row == ("call", _WORK):
             self.at += 1
-            return ("found", seen)
-        # Only at an OPEN PLACE of what is seen: else looks within looks could be deeper than any FORM.
-        if self.row()[0] != "enter" or part_at(seen, self.row()[1]) != OPEN:
+            return ("found", tupled(seen))
+        # A look is at an OPEN PLACE of what is seen.
+        if row[0] != "enter" or part_at(seen, row[1]) != []:
             self.at = None
-            return None
-        place = self.row()[1]
+            return row
         self.at += 1
-        rows = []
-        for sign in self.branches(place):
-            rows.append((sign, self.tree(put_all(seen, {place: open_form(sign)}))))
-        return ("look", place, tuple(rows))
+        return self.look(row[1])
+
+    def nodes(self):
+        """The nodes, as of one TREE that looks at () first: its branches are the TREES of the first SIGNS."""
+        # What is seen has lists for FORMS, [] for OPEN, so that it can be changed where a look is.
+        seen, way, nodes = [], [], [self.look(())]
+        waiting = [(seen, sign, 0) for sign in nodes[0][2][::-1]]
+        while waiting and self.at is not None:
+            part, sign, above = waiting.pop()
+            # What was seen in the branch ahead, behind as many looks as are above, is seen no more.
+            while len(way) > above:
+                way.pop().clear()
+            way.append(part)
+            part.extend([sign[0]] + [[] for _ in range(sign[1])])
+            node = self.node(seen)
+            nodes.append(node)
+            if node[0] == "look":
+                below = part_at(seen, node[1])
+                waiting.extend([(below, own, len(way)) for own in node[2][::-1]])
+        return nodes
 
 
-def _sides_found(tree):
-    """The SIDES found in tree."""
-    if tree[0] == "found":
-        return [tree[1]]
-    return [side for sign, own in tree[2] for side in _sides_found(own)]
+def _are_trees(nodes):
+    """Whether the branches of the first of nodes, which is a look at (), are TREES for one plain BOOK.
 
-
-def _are_trees(trees):
-    """Whether these pairs are TREES of unlike SIGNS, ascending, for one plain BOOK."""
-    sides = ascending([side for sign, tree in trees for side in _sides_found(tree)])
-    signs = [sign for sign, tree in trees]
-    if not is_book(sides) or not is_plain(sides) or tuple(signs) != first_signs(sides):
-        return False
-    return all([is_tree(sides, sign, tree) for sign, tree in trees])
+    The SIDES found are those of the BOOK, each one what is seen there. So those that agree with what is
+    seen at a look are the ones found behind it, and no two of them agree: the rest hangs on the SIGNS.
+    """
+    looks = [node for node in nodes if node[0] == "look"]
+    firsts = {sign: True for sign in looks[0][2]}
+    for number, (_, _, signs) in enumerate(looks):
+        if tuple(signs) != ascending(signs) or not all([is_side(open_form(sign)) for sign in signs]):
+            return False
+        if number > 0 and (not signs or any([sign in firsts for sign in signs])):
+            return False
+    return True
 
 
 def trees_in(code):
     """The trees of which code is code_of; None if there are none."""
     code = tupled(code)
-    reader = Reader(code, len(_START))
-    # What is read is read in the order of the rows; whether their numbers fit is told by the CODE that comes of it.
-    trees = []
-    for sign in reader.branches(()):
-        trees.append((sign, reader.tree(open_form(sign))))
-    return tuple(trees) if reader.at == len(code) and code_of(trees) == code and _are_trees(trees) else None
+    reader = Reader(code)
+    nodes = reader.nodes()
+    if reader.at != len(code) or not _are_trees(nodes):
+        return None
+    _, _, trees = tree_over(nodes)
+    return trees if code_of(trees) == code else None
 
 
 def first_state(form):

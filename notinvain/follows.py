@@ -4,7 +4,7 @@ from itertools import combinations
 
 from notinvain.always import lacks
 from notinvain.blots import blot_of, blot_rows, is_whole
-from notinvain.books import first_signs, is_book, is_plain, sides_with, signs_of
+from notinvain.books import first_signs, is_book, is_plain, signs_of
 from notinvain.cells import most_made
 from notinvain.ends import closed
 from notinvain.errors import CanNot, Unfit
@@ -12,7 +12,7 @@ from notinvain.forms import has_name, is_form
 from notinvain.looks import tree_of
 from notinvain.lots import least_blockers
 from notinvain.runs import tasks
-from notinvain.trees import OPEN, ascending, lies, own_sign, put_all, spots, tupled
+from notinvain.trees import OPEN, ascending, lies, own_sign, put_all, same, spots, tupled
 
 _NOTHING = ("end",)
 
@@ -57,7 +57,7 @@ def are_reasons(sides, other, thing):
 def idle_sides(sides):
     """The set of the SIDES that the others follow without them."""
     sides = tupled(sides)
-    return tuple([side for side in sides if follows([own for own in sides if own != side], (side,))])
+    return tuple([side for number, side in enumerate(sides) if follows(sides[:number] + sides[number + 1:], (side,))])
 
 
 def _checked_book(sides):
@@ -80,9 +80,10 @@ def both_books(book, other):
 def without_side(book, side):
     """book without side."""
     book, side = tupled(book), tupled(side)
-    if side not in book:
+    rest = tuple([own for own in book if not same(own, side)])
+    if len(rest) == len(book):
         raise CanNot()
-    return tuple([own for own in book if own != side])
+    return rest
 
 
 def _with_own_signs(book, signs, form):
@@ -109,24 +110,35 @@ def own_lacking(book, other, form):
     return out[0]
 
 
-def clashes(book):
-    """The set of all sets of SIDES of book that do not always need, though each part of them does."""
+def _with_numbers(book, rows):
+    """For each of rows the tuple of the SIDES of book with these numbers."""
+    book = tupled(book)
+    return tuple([tuple([book[number] for number in row]) for row in rows])
+
+
+def _clashing(book):
+    """All clashes of book, as ascending tuples of the numbers of their SIDES, ascending."""
     if not is_plain(book):
         raise CanNot()
-    out = []
+    book, out = tupled(book), []
     for sign in first_signs(book):
-        own = sides_with(book, sign)
+        own = [number for number, side in enumerate(book) if own_sign(side) == sign]
         for size in range(1, len(own) + 1):
-            for row in combinations(list(own), size):
-                known = any([all([side in row for side in less]) for less in out])
-                if not known and tree_of(row, sign) is None:
+            for row in combinations(own, size):
+                known = any([all([number in row for number in less]) for less in out])
+                if not known and tree_of([book[number] for number in row], sign) is None:
                     out.append(row)
     return tuple(sorted(out))
 
 
+def clashes(book):
+    """The set of all sets of SIDES of book that do not always need, though each part of them does."""
+    return _with_numbers(book, _clashing(book))
+
+
 def healings(book):
     """The set of all least sets of SIDES without which book always needs."""
-    return least_blockers(clashes(book))
+    return _with_numbers(book, least_blockers(_clashing(book)))
 
 
 def turned_tasks(book, other, form):
@@ -138,7 +150,7 @@ def turned_tasks(book, other, form):
 def kept_house(book, other, house):
     """house with the most of its calls that can be made by the SIDES that both BOOKS have."""
     other, (plan, calls) = tupled(other), tupled(house)
-    shared = tuple([side for side in tupled(book) if side in other])
+    shared = tuple([side for side in tupled(book) if any([same(side, own) for own in other])])
     return most_made(shared, plan, calls).house()
 
 

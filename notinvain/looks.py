@@ -1,9 +1,9 @@
 """TREES of looks, for plain BOOKS: which PLACE a FORM asks for next."""
 
-from notinvain.books import agreeing, first_signs, is_plain
+from notinvain.books import first_signs, is_plain
 from notinvain.errors import CanNot, TooMany
-from notinvain.trees import OPEN, ascending, first_fitting, is_number, is_numbers, is_pair, lies, open_form, open_in
-from notinvain.trees import own_sign, part_at, put_all, spots, spots_from_below, standing_at, tupled
+from notinvain.trees import OPEN, agree, ascending, first_fitting, flat, is_number, is_numbers, is_pair, lies
+from notinvain.trees import open_form, open_in, own_sign, part_at, put_all, same, spots_from_below, standing_at, tupled
 
 _MOST_TREES = 60
 
@@ -25,7 +25,7 @@ def _first_seen(book, sign):
 
 def _looked_at(book, form):
     """Of form three: the SIDE that fits it, or None; the numbers of those that agree; the wanted looks, ascending."""
-    numbers = agreeing(book, form)
+    numbers = tuple([number for number, side in enumerate(book) if agree(side, form)])
     fits = [book[own] for own in numbers if lies(book[own], form)]
     if fits or not numbers:
         return (fits[0] if fits else None, numbers, ())
@@ -51,20 +51,37 @@ def _branches(book, numbers, seen, place):
     return [(sign, put_all(seen, {place: open_form(sign)})) for sign in signs]
 
 
+def tree_over(nodes):
+    """The TREE of nodes, each ahead of those of its branches: ("found", side), or ("look", place, signs)."""
+    done = []
+    # From behind: the TREES of the branches of a look are there by then, the first one last.
+    for node in nodes[::-1]:
+        if node[0] == "found":
+            done.append(node)
+            continue
+        word, place, signs = node
+        start = len(done) - len(signs)
+        branches = tuple(zip(signs, done[start:][::-1]))
+        del done[start:]
+        done.append((word, place, branches))
+    return done[0]
+
+
 def _tree_or_stuck(book, seen):
     """(tree, None), by the least wanted look each time; or (None, form) with a stuck FORM."""
-    side, numbers, places = _looked_at(book, seen)
-    if side is not None:
-        return (("found", side), None)
-    if not places:
-        return (None, seen)
-    rows = []
-    for sign, more in _branches(book, numbers, seen, places[0]):
-        tree, form = _tree_or_stuck(book, more)
-        if tree is None:
+    waiting, nodes = [seen], []
+    while waiting:
+        form = waiting.pop()
+        side, numbers, places = _looked_at(book, form)
+        if side is not None:
+            nodes.append(("found", side))
+            continue
+        if not places:
             return (None, form)
-        rows.append((sign, tree))
-    return (("look", places[0], tuple(rows)), None)
+        rows = _branches(book, numbers, form, places[0])
+        nodes.append(("look", places[0], [sign for sign, more in rows]))
+        waiting.extend([more for sign, more in rows][::-1])
+    return (tree_over(nodes), None)
 
 
 def tree_of(book, sign):
@@ -84,119 +101,144 @@ def _is_sign(thing, sign):
     return is_pair(thing) and is_number(thing[1]) and thing == sign
 
 
-def _is_tree(book, seen, thing):
-    """Whether thing is a TREE for what is seen."""
+def _below(book, seen, thing):
+    """What is seen in each branch of thing, with what ought to be a TREE for it; None if thing is no TREE for seen."""
     side, numbers, places = _looked_at(book, seen)
     if side is not None:
-        return thing == ("found", side)
+        return [] if same(thing, ("found", side)) else None
     if not isinstance(thing, tuple) or len(thing) != 3 or thing[0] != "look":
-        return False
+        return None
     place, rows = thing[1], thing[2]
     if not is_numbers(place) or place not in places or not isinstance(rows, tuple):
-        return False
+        return None
     own = _branches(book, numbers, seen, place)
     if len(rows) != len(own) or not all([is_pair(row) for row in rows]):
-        return False
-    return all([_is_sign(row[0], sign) and _is_tree(book, more, row[1]) for row, (sign, more) in zip(rows, own)])
+        return None
+    if not all([_is_sign(row[0], sign) for row, (sign, more) in zip(rows, own)]):
+        return None
+    return [(more, row[1]) for row, (sign, more) in zip(rows, own)]
 
 
 def is_tree(book, sign, thing):
     """Whether thing is a TREE of sign."""
     book = _plain_book(book)
-    return _is_tree(book, _first_seen(book, sign), thing)
+    waiting = [(_first_seen(book, sign), thing)]
+    while waiting:
+        seen, own = waiting.pop()
+        below = _below(book, seen, own)
+        if below is None:
+            return False
+        waiting.extend(below)
+    return True
 
 
-def _key_of(numbers, seen):
-    """What tells seen, with which these SIDES agree, apart from all else that is seen: FORMS are too deep for keys."""
-    return (numbers, tuple([place for place, part in spots(seen) if part != OPEN]))
+def _all_seen(book, seen):
+    """All that can be seen from seen on, told by numbers from 0, what is seen behind a look behind it.
+
+    Pairs (side, looks): side fits, or is None; looks are pairs of a wanted PLACE and, for each branch, the
+    pair of its SIGN and the number of what is seen there.
+    """
+    forms, number_of, out = [seen], {}, []
+    while len(out) < len(forms):
+        form, looks = forms[len(out)], []
+        side, numbers, places = _looked_at(book, form)
+        for place in places:
+            branches = []
+            for sign, more in _branches(book, numbers, form, place):
+                own = flat(more)
+                if own not in number_of:
+                    number_of[own] = len(forms)
+                    forms.append(more)
+                branches.append((sign, number_of[own]))
+            looks.append((place, branches))
+        out.append((side, looks))
+    return out
 
 
-def _count(book, seen, kept):
-    """How many TREES there are for what is seen; kept has what was counted."""
-    side, numbers, places = _looked_at(book, seen)
-    key = _key_of(numbers, seen)
-    if key in kept:
-        return kept[key]
-    count = 0 if side is None else 1
-    for place in places:
-        ways = 1
-        for _, more in _branches(book, numbers, seen, place):
-            ways = ways * _count(book, more, kept)
-        count += ways
-    kept[key] = count
-    return count
+def _counts(rows):
+    """By number how many TREES there are for what is seen; rows are as _all_seen tells them."""
+    counts = {}
+    for number in reversed(range(len(rows))):
+        side, looks = rows[number]
+        counts[number] = 0 if side is None else 1
+        for _, branches in looks:
+            ways = 1
+            for _, behind in branches:
+                ways = ways * counts[behind]
+            counts[number] += ways
+    return counts
 
 
 def count_trees(book, sign):
     """How many TREES sign has."""
     book = _plain_book(book)
-    return _count(book, _first_seen(book, sign), {})
+    return _counts(_all_seen(book, _first_seen(book, sign)))[0]
 
 
-def _all_for(book, seen):
-    """All TREES for what is seen."""
-    side, numbers, places = _looked_at(book, seen)
-    trees = [] if side is None else [("found", side)]
-    for place in places:
-        rows = [()]
-        for sign, more in _branches(book, numbers, seen, place):
-            own = _all_for(book, more)
-            rows = [row + ((sign, tree),) for row in rows for tree in own]
-        trees.extend([("look", place, row) for row in rows])
-    return trees
+def _trees_over(side, looks, trees):
+    """All TREES for what is seen, which side fits if it is not None; trees has those behind looks."""
+    out = [] if side is None else [("found", side)]
+    for place, branches in looks:
+        # Where a branch has none, there is no need to go through those of the others.
+        rows = [()] if all([trees[behind] for sign, behind in branches]) else []
+        for sign, behind in branches:
+            rows = [row + ((sign, tree),) for row in rows for tree in trees[behind]]
+        out.extend([("look", place, row) for row in rows])
+    return out
 
 
 def all_trees(book, sign):
     """The set of all TREES of sign."""
-    many = count_trees(book, sign)
-    if many > _MOST_TREES:
+    book = _plain_book(book)
+    rows = _all_seen(book, _first_seen(book, sign))
+    counts, trees = _counts(rows), {}
+    if counts[0] > _MOST_TREES:
         raise TooMany()
-    book = tupled(book)
-    # Where there are none the search could be long all the same.
-    return ascending(_all_for(book, _first_seen(book, sign))) if many else ()
+    for number in reversed(range(len(rows))):
+        side, looks = rows[number]
+        # What has more TREES is in none of sign, which has no more.
+        trees[number] = _trees_over(side, looks, trees) if counts[number] <= _MOST_TREES else []
+    return ascending(trees[0])
 
 
-def _best_for(book, seen, kept):
+def _best_over(side, looks, best):
     """(looks, tree, height): the TREE with the fewest looks, the least of these, and the least height; or None."""
-    side, numbers, places = _looked_at(book, seen)
-    key = _key_of(numbers, seen)
-    if key in kept:
-        return kept[key]
-    best = None if side is None else (0, ("found", side), 0)
-    for place in places:
-        own = [(sign, _best_for(book, more, kept)) for sign, more in _branches(book, numbers, seen, place)]
-        if any([row is None for sign, row in own]):
-            continue
-        looks = 1 + sum([row[0] for sign, row in own])
-        tree = ("look", place, tuple([(sign, row[1]) for sign, row in own]))
-        height = 1 + max([row[2] for sign, row in own])
-        if best is None:
-            best = (looks, tree, height)
-        else:
-            best = min((looks, tree), best[:2]) + (min(height, best[2]),)
-    kept[key] = best
-    return best
+    if side is not None:
+        return (0, ("found", side), 0)
+    rows = []
+    for place, branches in looks:
+        own = [(sign, best[behind]) for sign, behind in branches]
+        if not any([row is None for sign, row in own]):
+            tree = ("look", place, tuple([(sign, row[1]) for sign, row in own]))
+            rows.append((1 + sum([row[0] for sign, row in own]), tree, 1 + max([row[2] for sign, row in own])))
+    if not rows:
+        return None
+    fewest = min([row[0] for row in rows])
+    # The PLACES ascend, so the first one is the least.
+    tree = [row[1] for row in rows if row[0] == fewest][0]
+    return (fewest, tree, min([row[2] for row in rows]))
+
+
+def _best_of(book, sign):
+    """What _best_over tells of what is seen first of sign."""
+    book, best = _plain_book(book), {}
+    rows = _all_seen(book, _first_seen(book, sign))
+    for number in reversed(range(len(rows))):
+        side, looks = rows[number]
+        best[number] = _best_over(side, looks, best)
+    return best[0]
 
 
 def least_tree(book, sign):
     """Of the TREES of sign with the fewest looks in them the least; None if there is none."""
-    book = _plain_book(book)
-    best = _best_for(book, _first_seen(book, sign), {})
+    best = _best_of(book, sign)
     return None if best is None else best[1]
 
 
 def least_height(book, sign):
     """The least longest_in of the TREES of sign; None if there is none."""
-    book = _plain_book(book)
-    best = _best_for(book, _first_seen(book, sign), {})
+    best = _best_of(book, sign)
     return None if best is None else best[2]
-
-
-def _leaves(tree):
-    """For each SIDE found in tree, a pair: it, and the tuple of the PLACES looked at on the way."""
-    if tree[0] == "found":
-        return [(tree[1], ())]
-    return [(side, (tree[1],) + places) for sign, own in tree[2] for side, places in _leaves(own)]
 
 
 def looks_in(tree):
@@ -212,12 +254,25 @@ def looks_in(tree):
 
 def longest_in(tree):
     """The most looks of tree that are one behind the other."""
-    return max([len(places) for side, places in _leaves(tupled(tree))])
+    waiting, most = [(tupled(tree), 0)], 0
+    while waiting:
+        own, count = waiting.pop()
+        most = max(most, count)
+        if own[0] == "look":
+            waiting.extend([(pair[1], count + 1) for pair in own[2]])
+    return most
 
 
 def ways_of(tree):
     """The set of the pairs of a SIDE found and the PLACES looked at on the way."""
-    return ascending(_leaves(tupled(tree)))
+    waiting, out = [(tupled(tree), ())], []
+    while waiting:
+        own, places = waiting.pop()
+        if own[0] == "found":
+            out.append((own[1], places))
+        else:
+            waiting.extend([(pair[1], places + (own[1],)) for pair in own[2]])
+    return ascending(out)
 
 
 def look_along(tree, form):

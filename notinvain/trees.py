@@ -1,7 +1,7 @@
 """What the other modules share: FORMS that are tuples throughout, the PLACES in them, and CELLS.
 
 Nothing here calls itself: what the package returns may be passed in again, so a FORM may grow
-deeper than Python lets a function call itself.
+deeper than Python lets a function call itself. Nor does it let == and < go so deep into tuples.
 """
 
 from notinvain.errors import NoPlace
@@ -51,14 +51,43 @@ def tupled(given):
     return done[0]
 
 
+def flat(thing):
+    """A tuple without tuples in it, by which things are compared just as they are themselves, however deep."""
+    waiting, out = [((thing,), 0)], []
+    while waiting:
+        whole, at = waiting.pop()
+        # The end of a tuple comes ahead of one more member.
+        if at == len(whole):
+            out.append(0)
+            continue
+        out.append(1)
+        waiting.append((whole, at + 1))
+        if isinstance(whole[at], tuple):
+            waiting.append((whole[at], 0))
+        else:
+            out.append(whole[at])
+    return tuple(out)
+
+
+def same(one, other):
+    """Whether two things are equal, however deep."""
+    waiting = [(one, other)]
+    while waiting:
+        own, more = waiting.pop()
+        if not isinstance(own, tuple) or not isinstance(more, tuple):
+            if own != more:
+                return False
+            continue
+        if len(own) != len(more):
+            return False
+        waiting.extend(list(zip(own, more)))
+    return True
+
+
 def ascending(rows):
     """The tuple of all that is in rows, ascending, each once."""
-    # FORMS are too deep to be members of a Python set, so equal ones are found side by side.
-    out = []
-    for row in sorted(rows):
-        if not out or out[-1] != row:
-            out.append(row)
-    return tuple(out)
+    table = {flat(row): row for row in rows}
+    return tuple([table[own] for own in sorted(table)])
 
 
 def spots(form):
@@ -191,9 +220,9 @@ def first_agreeing(sides, form):
     return None
 
 
-def _needs_of(whole, parts):
-    """For each part of whole, a SIDE or a PART: 0 if it is OPEN, else the bit of its number in parts."""
-    return tuple([0 if part == OPEN else 1 << parts.index(part) for part in whole[1:]])
+def _needs_of(whole, bits):
+    """For each part of whole, a SIDE or a PART: 0 if it is OPEN, else what bits has for it, made flat."""
+    return tuple([0 if part == OPEN else bits[flat(part)] for part in whole[1:]])
 
 
 def framed(sides, parts):
@@ -203,10 +232,11 @@ def framed(sides, parts):
     bit and what is needed; the number of the set of all PARTS.
     """
     over_sides, over_parts = {}, {}
+    bits = {flat(part): 1 << number for number, part in enumerate(parts)}
     for side in sides:
-        over_sides.setdefault(own_sign(side), []).append(_needs_of(side, parts))
+        over_sides.setdefault(own_sign(side), []).append(_needs_of(side, bits))
     for number, part in enumerate(parts):
-        over_parts.setdefault(own_sign(part), []).append((1 << number, _needs_of(part, parts)))
+        over_parts.setdefault(own_sign(part), []).append((1 << number, _needs_of(part, bits)))
     return (over_sides, over_parts, (1 << len(parts)) - 1)
 
 

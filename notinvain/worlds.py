@@ -2,7 +2,7 @@
 
 from notinvain.cells import causes_in, cells_of, checked_call, is_pairs_by_cell, ready_in, with_causes
 from notinvain.errors import CanNot, TooMany, Unfit
-from notinvain.trees import ascending, is_numbers, tupled
+from notinvain.trees import ascending, is_numbers, same, tupled
 
 _ROOT = (0,)
 _NOTHING = ("end",)
@@ -219,7 +219,7 @@ def _both_calls(house, other):
     """The calls of two HOUSES as dicts, for equal PLANS, and equal REPLIES where both have called."""
     (plan, calls), (second, more) = tupled(house), tupled(other)
     one, two = dict(list(calls)), dict(list(more))
-    if plan != second or any([one[cell] != two[cell] for cell in one if cell in two]):
+    if plan != second or any([not same(one[cell], two[cell]) for cell in one if cell in two]):
         raise Unfit()
     return (plan, one, two)
 
